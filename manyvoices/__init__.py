@@ -1,0 +1,1 @@
+"""Manyvoices: protocols that count voices, for all numbers of members."""

@@ -1,8 +1,11 @@
-"""Tells whether comparisons may stand in a goal."""
+"""Tells whether comparisons may stand in a goal, and goals in a wish."""
 
-from manyvoices.errors import BadGoal
+from manyvoices.errors import BadGoal, BadWish
 from manyvoices.forms import Comparison
-from manyvoices.kinds import is_list
+from manyvoices.kinds import is_list, is_row
+
+NEVER = "never"
+CALM = "calm"
 
 
 def first_no_goal(protocol, goal):
@@ -21,6 +24,23 @@ def check_goal(protocol, goal):
     index = first_no_goal(protocol, goal)
     if index is not None:
         raise BadGoal(index)
+
+
+def is_wish(protocol, thing):
+    """Tells of any object whether it is a wish for a protocol."""
+    if not is_row(thing, 2):
+        return False
+    word, goal = thing
+    return word in (NEVER, CALM) and first_no_goal(protocol, goal) is None
+
+
+def check_wishes(protocol, wishes):
+    """Raises BadWish if some thing in a list of wishes is none for a protocol, or if it is no list."""
+    if not is_list(wishes):
+        raise BadWish(0)
+    for index, wish in enumerate(wishes):
+        if not is_wish(protocol, wish):
+            raise BadWish(index)
 
 
 def _may_stand(places, thing):

@@ -82,6 +82,7 @@ class Language(unittest.TestCase):
     def test_imports(self):
         defined = {
             name: {node.name for node in tree.body if isinstance(node, (ast.FunctionDef, ast.ClassDef))}
+            | {node.targets[0].id for node in tree.body if isinstance(node, ast.Assign)}
             for name, tree in trees().items()
         }
         for name, tree in trees().items():
@@ -192,3 +193,73 @@ class Language(unittest.TestCase):
                     if isinstance(part.ctx, ast.Store) and getattr(part.value, "id", None) == "self"
                 }
                 self.assertEqual(methods & held, set(), (name, node.name))
+
+    def test_what_is_iterated_stands_on_the_spot(self):
+        # L23: zip, enumerate, reversed and the views of dicts are iterated where they stand, ranges too
+        takers = {"list", "tuple", "dict", "sorted", "sum", "any", "all", "enumerate", "zip", "min", "max"}
+        for name, tree in trees().items():
+            on_the_spot = set()
+            for node in nodes(tree, ast.For, ast.comprehension):
+                on_the_spot.add(node.iter)
+            for node in nodes(tree, ast.Call):
+                called = getattr(node.func, "id", None)
+                if called in takers:
+                    on_the_spot.update(node.args)
+                if called == "reversed":
+                    on_the_spot.update(part for part in node.args if getattr(part.func, "id", None) == "range")
+            for node in nodes(tree, ast.Call):
+                called = getattr(node.func, "id", None) or getattr(node.func, "attr", None)
+                if called in {"zip", "enumerate", "reversed", "range", "items", "keys", "values"}:
+                    self.assertIn(node, on_the_spot, (name, node.lineno))
+
+    def test_sets_are_counted_or_sorted_at_once(self):
+        # L24, without the sets that a function may keep
+        for name, tree in trees().items():
+            taken = set()
+            for node in nodes(tree, ast.Call):
+                if getattr(node.func, "id", None) in ("len", "sorted"):
+                    taken.update(node.args)
+            made = [node for node in nodes(tree, ast.Call) if getattr(node.func, "id", None) in ("set", "frozenset")]
+            for node in [*made, *nodes(tree, ast.Set, ast.SetComp)]:
+                self.assertIn(node, taken, (name, node.lineno))
+
+    def test_names_of_the_library_are_called_alone(self):
+        for name, tree in trees().items():
+            library = {thing for module, thing in imported(tree) if module in LIBRARY}
+            called = [node.func for node in nodes(tree, ast.Call) if not node.keywords]
+            read = [node for node in nodes(tree, ast.Name) if node.id in library]
+            self.assertEqual([node.lineno for node in read if node not in called], [], name)
+
+    def test_variables_of_inner_comprehensions(self):
+        # L7, and more strictly: none of them has the name of another variable of its function
+        kinds = (ast.ListComp, ast.DictComp, ast.SetComp)
+        for name, tree in trees().items():
+            for function in functions(tree):
+                outer = nodes(function, *kinds)
+                inner = [node for one in outer for node in nodes(one, *kinds) if node is not one]
+                inside = {part for one in outer for part in ast.walk(one)}
+                assigned = [part for part in nodes(function, ast.Name) if isinstance(part.ctx, ast.Store)]
+                told = {part.id for part in assigned if part not in inside}
+                told |= {arg.arg for arg in nodes(function, ast.arg)}
+                own = {part.id for node in inner for gen in node.generators for part in nodes(gen.target, ast.Name)}
+                self.assertEqual(own & told, set(), (name, function.name))
+
+    def test_names_of_methods_and_attributes_are_free(self):
+        # L26
+        held = {part for kind in (str, int, list, dict, set, bytes, float) for part in dir(kind)}
+        free = {"add", "discard", "items", "keys", "values", "append", "clear", "pop", "update"} | SPECIAL
+        for name, tree in trees().items():
+            methods = {part.name for node in nodes(tree, ast.ClassDef) for part in node.body if hasattr(part, "name")}
+            self.assertEqual(methods & (held - free), set(), name)
+            stored = {node.attr for node in nodes(tree, ast.Attribute) if isinstance(node.ctx, ast.Store)}
+            self.assertEqual(stored & (held - {"index", "count", "title", "find", "copy", "add"}), set(), name)
+
+    def test_stars_stand_where_they_may(self):
+        # L7: in calls of own functions and of max, min, zip, over names and attributes off names alone
+        for name, tree in trees().items():
+            own = {node.name for one in trees().values() for node in nodes(one, ast.FunctionDef, ast.ClassDef)}
+            for node in nodes(tree, ast.Call):
+                for part in [part.value for part in node.args if isinstance(part, ast.Starred)]:
+                    self.assertIn(getattr(node.func, "id", None), own | {"max", "min", "zip"}, (name, node.lineno))
+                    off_a_name = isinstance(part, ast.Attribute) and isinstance(part.value, ast.Name)
+                    self.assertTrue(isinstance(part, ast.Name) or off_a_name, (name, node.lineno))

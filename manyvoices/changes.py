@@ -10,6 +10,11 @@ def with_threshold(protocol, rule, index, integers):
     a, b, d = integers
     threshold = Threshold(rule.when[index])
     condition = at_least(threshold.times * heard(*threshold.heard), a * members() + b * bound() + d)
+    return with_condition(protocol, rule, index, condition)
+
+
+def with_condition(protocol, rule, index, condition):
+    """Returns the protocol in which a rule has another condition at an index."""
     return _with_conditions(protocol, rule, [*rule.when[:index], condition, *rule.when[index + 1 :]])
 
 

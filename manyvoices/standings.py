@@ -24,6 +24,15 @@ class Standing:
         self.partial = {sort: 0 for sort in self.full}
         self.gone = 0
 
+    def twin(self):
+        """Returns a new standing that is as this one is."""
+        other = Standing(self.protocol, (self.n, self.t, self.f), list(self.first.items()))
+        other.here = dict(self.here)
+        other.full = dict(self.full)
+        other.partial = dict(self.partial)
+        other.gone = self.gone
+        return other
+
     def may_take(self, rule):
         """Tells whether all conditions of a rule are met as it may be."""
         return all([self.may_meet(condition) for condition in rule.when])
@@ -97,6 +106,11 @@ class Standing:
         for sort in rule.says:
             voices[sort] += many
 
+    def take_back(self, step):
+        """Takes the last step back."""
+        word, name, many = step
+        self.do((word, name, -many))
+
 
 def are_numbers(protocol, n, t, f):
     """Tells of any objects whether they are a number of members, of faulty ones borne, and of faulty ones."""
@@ -131,12 +145,16 @@ def replayed(protocol, thing):
 
 def _is_begun(protocol, thing, many):
     """Tells of any object whether it is a list of all beginnings with their numbers, so many in all."""
-    begins = protocol.begins()
-    if not is_row(thing, len(begins)) or not all([is_row(pair, 2) for pair in thing]):
+    return are_pairs(thing) and [place for place, _ in thing] == protocol.begins() and begun_in_all(thing) == many
+
+
+def are_pairs(thing):
+    """Tells of any object whether it is a list of pairs of a thing and an integer from 0 on."""
+    if not is_list(thing) or not all([is_row(pair, 2) for pair in thing]):
         return False
-    if [pair[0] for pair in thing] != begins:
-        return False
-    numbers = [pair[1] for pair in thing]
-    if not all([is_integer(number) and number >= 0 for number in numbers]):
-        return False
-    return sum(numbers) == many
+    return all([is_integer(number) and number >= 0 for _, number in thing])
+
+
+def begun_in_all(pairs):
+    """Returns how many have begun in all, by the pairs (place, many)."""
+    return sum([many for _, many in pairs])

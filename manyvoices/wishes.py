@@ -7,6 +7,7 @@ from manyvoices.goals import CALM, check_wishes
 from manyvoices.kinds import is_integer, is_row
 from manyvoices.protocols import FAULTS
 from manyvoices.reaching import together
+from manyvoices.sheets import Threshold
 
 GREATEST = 9
 MOST_PAIRS = 4
@@ -61,6 +62,19 @@ def parting(one, other):
                 if not any([_is_part(places, greater) for greater in foreign]):
                     return calm, is_first, places
     return None
+
+
+def mending_thresholds(protocol, wishes):
+    """Returns the triples (name, index, (a, b, d)) of changes by one of one threshold after which all wishes hold."""
+    found = []
+    for rule in protocol.rules():
+        for index, condition in enumerate(rule.when):
+            threshold = Threshold(condition)
+            a, b, d = threshold.a, threshold.b, threshold.d
+            for changed in [(a, b - 1, 0), (a, b - 1, 1), (a, b, 1 - d), (a, b + 1, 0), (a, b + 1, 1)]:
+                if not broken(with_threshold(protocol, rule, index, changed), wishes):
+                    found.append((rule.name, index, changed))
+    return found
 
 
 def check_index(rule, thing):

@@ -1,126 +1,127 @@
-"""Cases: by which order of conditions a standing comes, and which conditions are not surely met in it."""
+"""Cases: by which order of conditions a standing can come, and what it needs to be there."""
 
 from math import gcd, lcm
 
-from manyvoices.sheets import Sheet
-from manyvoices.tables import Table
+from manyvoices.sheets import FAULTY, FIRST_WAY, MORE, bits_of
+from manyvoices.tables import fresh_table
+from manyvoices.ways import STAYS
 
 
 class Crowd:
-    """How many faulty ones are borne, how many there are, and the pairs (index of a way, how many go it)."""
+    """How many faulty ones are borne, how many there are, and the pairs (a way, how many go it)."""
 
     def __init__(self, t, f, goers):
         self.t = t
         self.f = f
-        self.goers = tuple(goers)
+        self.goers = goers
 
 
-class Cases:
-    """All cases by which standings of a protocol can come."""
+class Case:
+    """An order by which standings can come, the sums that they meet by whatever order, and a settled table.
 
-    def __init__(self, protocol):
-        self.sheet = Sheet(protocol)
-        orders = possible_orders(self.sheet)
-        # what comes by an order whose last condition lets nobody do more comes by the order ahead of it, too
-        self._orders = [order for order in orders if order == () or self.sheet.lets_more(order)]
-        self._choices = _needed_choices(self.sheet)
+    columns are those of the unknowns that need not be 0.
+    """
 
-    def reached(self, goal, calm):
-        """Returns a pair (case, crowd) with which a standing meets a goal (and is calm), or None."""
-        goal_rows = self.sheet.comparison_rows(goal)
-        for order in self._orders:
-            for found in self._met_by(order, goal_rows, calm):
-                return found
+    def __init__(self, order, sums, columns, table):
+        self.order = order
+        self.sums = sums
+        self.columns = columns
+        self.table = table
+
+
+class Search:
+    """Looks through the orders by which standings can come that meet some sums, by ways of some columns alone."""
+
+    def __init__(self, sheet, sums, columns):
+        self._sheet = sheet
+        self._sums = [*sums, *sheet.base]
+        self._columns = columns
+        # orders to be looked at, each told by the one ahead of it, the conditions of that one as bits, those
+        # that come behind them, and the tables of the one ahead
+        self._left = [((), 0, [], fresh_table(self._sums), None)]
+
+    def next_case(self):
+        """Returns the next case in which such a standing can come, or None behind the last one."""
+        while self._left:
+            order, met, block, ahead, wide = self._left.pop()
+            sums = [self._sheet.met_sum(number, met) for number in block]
+            order = (*order, *block)
+            met += bits_of(block)
+            columns = self._open_columns(met)
+            table, wide = self._settled(sums, columns, ahead, wide)
+            if table is not None:
+                self._left.extend([(order, met, more, table, wide) for more in self._sheet.blocks(met)])
+            if table is not None and wide is None:
+                return Case(order, self._sums, columns, table)
         return None
 
-    def met(self, goal_rows, calm):
-        """Returns cases such that each standing that meets a goal (and is calm) comes by one of them."""
-        return [case for order in self._orders for case, _ in self._met_by(order, goal_rows, calm)]
+    def _settled(self, sums, columns, ahead, wide):
+        """Returns the table of an order, settled if its open ways are enough, else stuck, and the wide table, if so.
 
-    def _met_by(self, order, goal_rows, calm):
-        """Returns the pairs (case, crowd) by an order."""
-        cases = [self.sheet.bare_case(order)]
-        pairs = self._held(cases, goal_rows)
-        # where no standing meets the goal, no calm one does
-        if calm and pairs:
-            cases = [self.sheet.case_of(order, few, calm) for few in self._choices]
-            pairs = self._held(cases, goal_rows)
-        return pairs
+        The wide one is settled by all ways, as may be open later; where even
+        this cannot be, it returns no tables at all.
+        """
+        if wide is not None:
+            wide = wide.grown(sums)
+            if wide.settle(self._columns) is not None:
+                return None, None
+            if wide.stands_on(columns):
+                return wide, None
+        table = ahead.grown(sums)
+        if table.settle(columns) is None:
+            return table, None
+        if wide is None:
+            wide = table.grown([])
+            if wide.settle(self._columns) is not None:
+                return None, None
+        return table, wide
 
-    def _held(self, cases, goal_rows):
-        pairs = [(case, solved(self.sheet, case, goal_rows)[0]) for case in cases]
-        return [(case, crowd) for case, crowd in pairs if crowd is not None]
-
-
-def choices(sheet, calm):
-    """Returns all choices of few conditions, as ascending tuples."""
-    found = [()]
-    for number in range(len(sheet.thresholds) if calm else 0):
-        found = found + [(*few, number) for few in found]
-    return found
-
-
-def longer_orders(sheet, order):
-    """Returns the orders that are an order and one condition more behind it."""
-    return [(*order, number) for number in range(len(sheet.thresholds)) if number not in order]
+    def _open_columns(self, met):
+        columns = self._sheet.open_columns(met)
+        if len(self._columns) == len(self._sheet.all_columns):
+            return columns
+        return [column for column in columns if column in self._columns]
 
 
-def possible_orders(sheet):
-    """Returns all orders whose conditions can come to be met one behind another, shorter ones ahead."""
+def searches(sheet, sums, calm):
+    """Returns the searches that together find all standings that meet some sums (and are calm)."""
+    if not calm:
+        return [Search(sheet, sums, sheet.all_columns)]
+    return [Search(sheet, [*sums, *unmet], columns) for unmet, columns in sheet.choices()]
+
+
+def first_case(sheet, sums, calm):
+    """Returns a case in which a standing can come that meets some sums (and is calm), or None."""
+    for search in searches(sheet, sums, calm):
+        case = search.next_case()
+        if case is not None:
+            return case
+    return None
+
+
+def all_cases(sheet, sums, calm):
+    """Returns cases such that each standing that meets some sums (and is calm) comes in one of them."""
     found = []
-    level = [()]
-    while level:
-        level = [order for order in level if solved(sheet, sheet.bare_case(order), [])[0] is not None]
-        found.extend(level)
-        level = [longer for order in level for longer in longer_orders(sheet, order)]
+    for search in searches(sheet, sums, calm):
+        case = search.next_case()
+        while case is not None:
+            found.append(case)
+            case = search.next_case()
     return found
 
 
-def solved(sheet, case, goal_rows):
-    """Returns the pair of a crowd with which all rows of a case hold, and of weights that bar it; one is None."""
-    rows = sheet.rows_of(case, goal_rows)
-    ways = unlike_ways(sheet, case, rows)
-    table = Table([unknowns_of(sheet, row, ways) for row in rows], [])
-    stuck = table.settle()
-    if stuck is not None:
-        return None, table.reasons(stuck)
-    return _whole_crowd(ways, table.amounts()), None
-
-
-def unlike_ways(sheet, case, rows):
-    """Returns the indexes of the ways that are open in a case, one of those that are alike in all rows."""
-    kept = {}
-    for index in sheet.open_ways(case):
-        kept.setdefault(tuple([row.worths[index] for row in rows]), index)
-    return list(kept.values())
-
-
-def unknowns_of(sheet, row, ways):
-    """Returns how much the form of a row is above its constant: a constant, and integers of t, f and each way."""
-    # n is no unknown: it is the sum of those that go the ways, and of the faulty ones unless these go some way, too
-    faulty = row.f if sheet.stopping else row.n + row.f
-    return [-row.constant, row.t, faulty, *[row.n + row.worths[index] for index in ways]]
-
-
-def _needed_choices(sheet):
-    """Returns the choices of few conditions of which none can be left out without barring a place more."""
-    found = []
-    for few in choices(sheet, True):
-        fewer = [[number for number in few if number != left] for left in few]
-        if not any([sheet.barred_places(some) == sheet.barred_places(few) for some in fewer]):
-            found.append(few)
-    return found
-
-
-def _whole_crowd(ways, amounts):
-    """Returns the crowd of the least whole numbers that are to one another as amounts are."""
+def crowd_of(sheet, table):
+    """Returns the crowd of the least whole numbers that are to one another as those that a settled table tells."""
+    amounts = table.amounts()
     below = 1
-    for _, part in amounts:
+    for _, part in amounts.values():
         below = lcm(below, part)
-    whole = [above * (below // part) for above, part in amounts]
+    whole = {name: above * (below // part) for name, (above, part) in amounts.items() if above > 0}
     common = 0
-    for number in whole:
+    for number in whole.values():
         common = gcd(common, number)
-    # the constants are 0 or 1, so rows that hold for whole numbers hold for each whole part of them
-    t, f, *many = [number // common for number in whole]
-    return Crowd(t, f, [(way, number) for way, number in zip(ways, many) if number > 0])
+    # the constants are 0 or 1, so sums that hold for whole numbers hold for each whole part of them
+    least = {name: number // common for name, number in whole.items()}
+    goers = [(way, least[column]) for column, way in enumerate(sheet.ways, FIRST_WAY) if column in least]
+    f = least.get(FAULTY, 0) + sum([many for way, many in goers if way.ending != STAYS])
+    return Crowd(least.get(MORE, 0) + f, f, goers)

@@ -1,16 +1,6 @@
-"""Protocols like another one: with something left out, or with another threshold."""
+"""Protocols like another one: with something left out, or with another condition."""
 
-from manyvoices.forms import at_least, bound, heard, members
 from manyvoices.protocols import Rule
-from manyvoices.sheets import Threshold
-
-
-def with_threshold(protocol, rule, index, integers):
-    """Returns the protocol in which a condition of a rule asks for a n + b t + d instead; integers are a, b, d."""
-    a, b, d = integers
-    threshold = Threshold(rule.when[index])
-    condition = at_least(threshold.times * heard(*threshold.heard), a * members() + b * bound() + d)
-    return with_condition(protocol, rule, index, condition)
 
 
 def with_condition(protocol, rule, index, condition):

@@ -1,10 +1,11 @@
 """What can come where it is told how many members there are."""
 
-from manyvoices.cases import Cases
+from manyvoices.cases import all_cases
 from manyvoices.counts import Count
 from manyvoices.errors import BadMany
 from manyvoices.goals import check_goal
 from manyvoices.kinds import is_integer
+from manyvoices.sheets import Sheet
 from manyvoices.steps import run_of
 
 MOST = 4
@@ -14,7 +15,7 @@ def numbers(protocol, goal, most, *, calm=False):
     """Returns all pairs (n, t), n at most most, with which a standing can come that meets a goal (and is calm)."""
     check_goal(protocol, goal)
     _check_many(most)
-    counts = _counts(Cases(protocol), goal, calm)
+    counts = _counts(protocol, goal, calm)
     pairs = [(n, t) for n in range(1, most + 1) for t in range(n + 1)]
     return [(n, t) for n, t in pairs if _found(counts, n, t) is not None]
 
@@ -24,12 +25,11 @@ def run_at(protocol, goal, n, t, *, calm=False):
     check_goal(protocol, goal)
     _check_many(n)
     _check_many(t)
-    cases = Cases(protocol)
-    found = _found(_counts(cases, goal, calm), n, t)
+    found = _found(_counts(protocol, goal, calm), n, t)
     if found is None:
         return None
     case, crowd = found
-    return run_of(cases.sheet, case, crowd)
+    return run_of(protocol, case.order, crowd)
 
 
 def _check_many(thing):
@@ -37,10 +37,10 @@ def _check_many(thing):
         raise BadMany(thing)
 
 
-def _counts(cases, goal, calm):
-    goal_rows = cases.sheet.comparison_rows(goal)
+def _counts(protocol, goal, calm):
+    sheet = Sheet(protocol)
     # cases that cannot be for any numbers are not among them
-    return [Count(cases.sheet, case, goal_rows) for case in cases.met(goal_rows, calm)]
+    return [Count(sheet, case) for case in all_cases(sheet, sheet.comparison_sums(goal), calm)]
 
 
 def _found(counts, n, t):

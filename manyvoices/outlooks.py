@@ -1,6 +1,6 @@
 """Looks at all that can come to few members from a standing on, one member after another."""
 
-from manyvoices.sheets import Threshold
+from manyvoices.thresholds import threshold_of
 
 
 class Move:
@@ -28,7 +28,7 @@ class Outlook:
         self._calm = calm
         self._places = protocol.places()
         self._conditions = protocol.conditions()
-        self._thresholds = [Threshold(condition) for condition in self._conditions]
+        self._thresholds = [threshold_of(condition) for condition in self._conditions]
         terms = [term for comparison in goal for term, _ in comparison.terms()]
         self._named = [sort for sort in now.full if ("said", sort) in terms]
         self._surely = len(self._places) + len(self._conditions)

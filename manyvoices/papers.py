@@ -1,26 +1,32 @@
 """Papers: lists of triples (order, few, weights) that show that a goal cannot be met."""
 
-from manyvoices.cases import choices, longer_orders, solved
 from manyvoices.kinds import is_integer, is_list, is_row
+from manyvoices.sheets import FAULTY, FIRST_WAY, MORE, bits_of
+from manyvoices.tables import CONSTANT, fresh_table
+from manyvoices.ways import STAYS
 
-
-def barring_triples(sheet, order, goal_rows, calm):
+def barring_triples(sheet, order, goal_sums, calm):
     """Returns the triples that a paper has with an order, or None if the goal can be met by it."""
     if order != ():
-        _, weights = solved(sheet, sheet.bare_case(order), [])
+        weights = _barring_weights(sheet, order, None, [], calm)
         if weights is not None:
             return [(order, None, weights)]
     triples = []
-    for few in choices(sheet, calm):
-        _, weights = solved(sheet, sheet.case_of(order, few, calm), goal_rows)
+    for few in _all_few(sheet, calm):
+        weights = _barring_weights(sheet, order, few, goal_sums, calm)
         if weights is None:
             return None
         triples.append((order, few, weights))
     return triples
 
 
-def is_barring(sheet, goal_rows, thing, calm):
-    """Tells of any object whether it is a paper for the goal with these rows."""
+def longer_orders(sheet, order):
+    """Returns the orders that are an order and one condition more behind it."""
+    return [(*order, number) for number in range(len(sheet.thresholds)) if number not in order]
+
+
+def is_barring(sheet, goal_sums, thing, calm):
+    """Tells of any object whether it is a paper for the goal with these sums."""
     told = _told(len(sheet.thresholds), thing)
     if told is None or () not in told:
         return False
@@ -28,7 +34,7 @@ def is_barring(sheet, goal_rows, thing, calm):
         if not _stands_rightly(sheet, told, order, calm):
             return False
         for few in told[order]:
-            if not _bars(sheet, order, few, goal_rows, told[order][few], calm):
+            if not _bars(sheet, order, few, goal_sums, told[order][few], calm):
                 return False
     return True
 
@@ -75,25 +81,63 @@ def _stands_rightly(sheet, told, order, calm):
         return False
     if None in by_few:
         return len(by_few) == 1
-    all_few = choices(sheet, calm)
+    all_few = _all_few(sheet, calm)
     if len(by_few) != len(all_few) or not all([few in by_few for few in all_few]):
         return False
     return all([longer in told for longer in longer_orders(sheet, order)])
 
 
-def _bars(sheet, order, few, goal_rows, weights, calm):
+def _all_few(sheet, calm):
+    """Returns all choices few of conditions, as ascending tuples."""
+    found = [()]
+    for number in range(len(sheet.thresholds) if calm else 0):
+        found = found + [(*few, number) for few in found]
+    return found
+
+
+def _sums_of(sheet, order, few, goal_sums):
+    """Returns the sums of a triple, in the order of the weights."""
+    unmet = [sheet.unmet_sum(number) for number in few or ()]
+    return [*sheet.order_sums(order), *sheet.promises, *goal_sums, *unmet, *sheet.last]
+
+
+def _open_columns(sheet, order, few, calm):
+    """Returns the columns of the unknowns that need not be 0 in a triple."""
+    columns = sheet.open_columns(bits_of(order))
+    if few is None or not calm:
+        return columns
+    barred = sheet.barred_places(bits_of(few))
+    return [column for column in columns if column < FIRST_WAY or sheet.way(column).end not in barred]
+
+
+def _barring_weights(sheet, order, few, goal_sums, calm):
+    """Returns weights that bar, or None if there are none."""
+    sums = _sums_of(sheet, order, few, goal_sums)
+    table = fresh_table(sums)
+    stuck = table.settle(_open_columns(sheet, order, few, calm))
+    if stuck is None:
+        return None
+    often = table.reasons(stuck)
+    weights = [often.get(name, 0) for name in range(len(sums[0]), len(sums[0]) + len(sums))]
+    # that the unknowns of MORE and FAULTY are 0 or more is said by sums, too, which have weights
+    weights[-len(sheet.last)] += often.get(MORE, 0)
+    if sheet.stopping:
+        weights[-1] += often.get(FAULTY, 0)
+    return weights
+
+
+def _bars(sheet, order, few, goal_sums, weights, calm):
     """Tells whether weights bar; None in the place of few stands for the order without the goal."""
-    case = sheet.bare_case(order) if few is None else sheet.case_of(order, few, calm)
-    rows = sheet.rows_of(case, [] if few is None else goal_rows)
-    if len(weights) != len(rows):
+    sums = _sums_of(sheet, order, few, [] if few is None else goal_sums)
+    if len(weights) != len(sums):
         return False
-    ways = sheet.open_ways(case)
-    if not ways:
+    columns = [column for column in _open_columns(sheet, order, few, calm) if column >= FIRST_WAY]
+    if not columns:
         return True
-    pairs = list(zip(weights, rows))
-    best = max([sum([weight * row.worths[way] for weight, row in pairs]) for way in ways])
-    n = sum([weight * row.n for weight, row in pairs])
-    t = sum([weight * row.t for weight, row in pairs])
-    f = sum([weight * row.f for weight, row in pairs])
-    constant = sum([weight * row.constant for weight, row in pairs])
-    return t <= 0 and n + best <= 0 and (f if sheet.stopping else n + f) <= 0 and constant > 0
+    total = [sum([weight * other[place] for weight, other in zip(weights, sums)]) for place in range(len(sums[0]))]
+    # the integer of t, and that of f, with that of n where the faulty ones go no way
+    t = total[MORE]
+    f = total[FAULTY] - t
+    # who stops is a faulty one, for whom t and f count, too
+    worths = [total[column] - (0 if sheet.way(column).ending == STAYS else total[FAULTY]) for column in columns]
+    return t <= 0 and max(worths) <= 0 and f <= 0 and total[CONSTANT] < 0

@@ -1,17 +1,17 @@
 """Shares: what a form can be by the number of members."""
 
-from manyvoices.cases import Cases, unknowns_of, unlike_ways
+from manyvoices.cases import first_case
 from manyvoices.errors import BadForm
 from manyvoices.forms import Form, bound, members
 from manyvoices.goals import CALM, check_goal, check_wishes
 from manyvoices.intervals import joined, lowest_terms
-from manyvoices.tables import Table
+from manyvoices.sheets import Sheet
+from manyvoices.tables import CONSTANT, SCALE
 
-# the watched sums of a table: the number of members, the form, what it lacks to 0, and the unit that was
+# the watched sums of a table: the number of members, the form, and the unit that was
 MEMBERS = 0
 FORM = 1
-LACK = 2
-UNIT = 3
+UNIT = 2
 
 
 def shares(protocol, goal, form, *, calm=False):
@@ -19,16 +19,41 @@ def shares(protocol, goal, form, *, calm=False):
     check_goal(protocol, goal)
     if not _can_be_shared(protocol, form):
         raise BadForm(form)
-    return joined(_intervals(Cases(protocol), goal, form, calm))
+    sheet = Sheet(protocol)
+    return shares_in(sheet, sheet.form_sum(form), [(sheet.comparison_sums(goal), calm)])
 
 
 def borne(protocol, wishes):
     """Returns the intervals of the shares of t at which, without the promises, some wish is broken."""
     check_wishes(protocol, wishes)
-    cases = Cases(protocol.but(promise=()))
+    sheet = Sheet(protocol.but(promise=()))
+    return shares_in(sheet, sheet.form_sum(bound()), broken_by(sheet, wishes))
+
+
+def broken_by(sheet, wishes):
+    """Returns for each wish the pair of the sums of what breaks it, and of whether only calm standings do."""
+    return [(sheet.comparison_sums(goal), word == CALM) for word, goal in wishes]
+
+
+def shares_in(sheet, shared, asked):
+    """Returns the intervals of the shares of a form, told by its sum, where one of some pairs (sums, calm) is met."""
+    watched = [sheet.form_sum(members()), shared]
     found = []
-    for word, goal in wishes:
-        found.extend(_intervals(cases, goal, bound(), word == CALM))
+    # each gap is told by the sums that a share is above its low end, if any, and below its high end
+    gaps = [([], [])]
+    for sums, calm in asked:
+        left = gaps
+        gaps = []
+        while left:
+            above, below = left.pop()
+            case = first_case(sheet, [*above, *below, *sums], calm)
+            if case is None:
+                gaps.append((above, below))
+            else:
+                low, is_low, high, is_high = _interval(case, watched)
+                found.append((low, is_low, high, is_high))
+                left.append((above, [_beyond(watched, low, is_low, -1)]))
+                left.append(([_beyond(watched, high, is_high, 1)], below))
     return joined(found)
 
 
@@ -47,30 +72,30 @@ def _is_counted(protocol, term):
     return term[0] != "heard"
 
 
-def _intervals(cases, goal, form, calm):
-    """Returns the intervals of the shares of a form, one for each case."""
-    goal_rows = cases.sheet.comparison_rows(goal)
-    watched = [cases.sheet.form_row(other) for other in (members(), form, -form)]
-    return [_interval(cases.sheet, case, goal_rows, watched) for case in cases.met(goal_rows, calm)]
+def _beyond(watched, end, is_end, sign):
+    """Returns the sum that a share is above an end (sign 1) or below it (sign -1), or there, if it is none."""
+    over, under = end
+    total = [sign * (under * form - over * many) for many, form in zip(watched[MEMBERS], watched[FORM])]
+    total[SCALE] = 1
+    total[CONSTANT] = -1 if is_end else 0
+    return total
 
 
-def _interval(sheet, case, goal_rows, watched):
-    """Returns the interval of the shares in a case in which the goal can be met."""
-    rows = sheet.rows_of(case, goal_rows)
-    ways = unlike_ways(sheet, case, [*rows, *watched])
-    sums = [unknowns_of(sheet, row, ways) for row in rows]
-    table = Table(sums, [unknowns_of(sheet, row, ways) for row in watched])
-    table.settle()
+def _interval(case, watched):
+    """Returns the interval of the shares in a case."""
+    table = case.table.grown([])
+    table.watch(watched)
     # by the members, the unit is 0 where the shares are only come near, with ever more members
     table.measure_by(MEMBERS)
-    high, is_high = _greatest(table, FORM)
-    low, is_low = _greatest(table, LACK)
-    return (-low[0], low[1]), is_low, high, is_high
+    high, is_high = _farthest(table, 1, case.columns)
+    low, is_low = _farthest(table, -1, case.columns)
+    return low, is_low, high, is_high
 
 
-def _greatest(table, place):
-    """Returns the greatest share of a watched sum, and whether it is one that can be had."""
-    table.rise(place)
-    above, below = table.amount(place)
-    table.rise(UNIT, place)
+def _farthest(table, sign, columns):
+    """Returns the greatest (sign 1) or the least (sign -1) share, and whether it is one that can be had."""
+    table.drive(FORM, sign, columns)
+    above, below = table.amount(FORM)
+    # only what leaves the share as it is may rise behind this
+    table.drive(UNIT, 1, table.unmoving(FORM, columns))
     return lowest_terms(above, below), table.amount(UNIT)[0] > 0

@@ -4,7 +4,7 @@ from manyvoices.errors import BadRun, BadText, NoText, VoiceError
 from manyvoices.lines import Page
 from manyvoices.protocols import Rule, Scheme
 from manyvoices.runs import is_run
-from manyvoices.sheets import Threshold
+from manyvoices.thresholds import threshold_of
 from manyvoices.standings import Standing, are_numbers, begun_in_all, going
 from manyvoices.sums import AND, BOUND, MEMBERS, RESERVED, SAYS, read_condition, read_promise
 
@@ -152,7 +152,7 @@ def _written_rule(rule):
 
 
 def _written_condition(condition):
-    threshold = Threshold(condition)
+    threshold = threshold_of(condition)
     for sort in threshold.heard:
         if sort in RESERVED:
             raise NoText(sort)

@@ -6,40 +6,59 @@ CUT = "cut"
 
 
 class Way:
-    """A member begins at a place, goes by a row of rules, and stays there, stops there, or is cut in the last rule."""
+    """A member begins at a place, goes by a row of rules, and stays there, stops there, or is cut in the last rule.
 
-    def __init__(self, begin, row, ending):
+    For each rule of the row, marks holds the conditions that this one and
+    those ahead of it need; each number of a condition is a bit. voices holds
+    the pairs (sort, mark of the rule that says it), in full or not.
+    """
+
+    def __init__(self, begin, row, ending, marks, voices):
         self.begin = begin
-        self.row = tuple(row)
+        self.row = row
         self.ending = ending
+        self.marks = marks
+        self.mark = marks[-1] if marks else 0
+        self.voices = voices
         self.end = self.last_place() if ending == STAYS else None
-        self.counted = self._counted()
 
     def last_place(self):
         """Returns the place to which the rules lead."""
         return self.row[-1].end if self.row else self.begin
 
-    def _counted(self):
-        """Returns the list of the terms for which a member that goes this way counts, once each."""
-        in_full = self.row[:-1] if self.ending == CUT else self.row
-        voices = [("said", sort) for rule in in_full for sort in rule.says]
-        places = [] if self.end is None else [("at", self.end)]
-        return [("begun", self.begin), *places, *voices]
+    def longer(self, rule, needs):
+        """Returns the way that goes on by one rule more."""
+        mark = self.mark | needs
+        voices = (*self.voices, *[(sort, mark) for sort in rule.says])
+        return Way(self.begin, (*self.row, rule), self.ending, (*self.marks, mark), voices)
+
+    def ended(self, ending):
+        """Returns the way by the same rules with another ending."""
+        return Way(self.begin, self.row, ending, self.marks, self.voices)
+
+    def in_full(self):
+        """Returns the list of the sorts that are said in full."""
+        row = self.row[:-1] if self.ending == CUT else self.row
+        return [sort for rule in row for sort in rule.says]
 
 
-def ways_of(protocol):
-    """Returns the list of all ways of members in a protocol."""
-    rules = protocol.rules()
+def ways_of(protocol, needs):
+    """Returns the list of all ways of members in a protocol; needs holds what each of its rules needs, as bits.
+
+    Who stops behind a rule that says nothing, or within it, might as well
+    have stopped ahead of it, so these are left out.
+    """
+    pairs = list(zip(protocol.rules(), needs))
     stay = []
-    level = [Way(place, [], STAYS) for place in protocol.begins()]
+    level = [Way(place, (), STAYS, (), ()) for place in protocol.begins()]
     while level:
         stay.extend(level)
-        level = [Way(way.begin, [*way.row, rule], STAYS) for way in level for rule in rules if rule.start == way.end]
+        level = [way.longer(rule, bits) for way in level for rule, bits in pairs if rule.start == way.end]
     if protocol.faults != "stopping":
         return stay
-    stop = [Way(way.begin, way.row, STOPS) for way in stay]
-    cut = [Way(way.begin, way.row, CUT) for way in stay if way.row]
-    return [*stay, *stop, *cut]
+    saying = [way for way in stay if way.row and way.row[-1].says]
+    silent = [way for way in stay if not way.row]
+    return [*stay, *[way.ended(STOPS) for way in [*silent, *saying]], *[way.ended(CUT) for way in saying]]
 
 
 def rules_in_turn(protocol):

@@ -1,13 +1,14 @@
 """Wishes: which of them hold, and which would hold if a protocol were another one."""
 
-from manyvoices.cases import Cases
-from manyvoices.changes import all_left_out, with_threshold
+from manyvoices.cases import first_case
+from manyvoices.changes import all_left_out
 from manyvoices.errors import BadBox, BadIndex, UnlikePlaces
 from manyvoices.goals import CALM, check_wishes
 from manyvoices.kinds import is_integer, is_row
 from manyvoices.protocols import FAULTS
-from manyvoices.reaching import together
-from manyvoices.sheets import Threshold
+from manyvoices.reaching import is_part, sets_together
+from manyvoices.sheets import Sheet
+from manyvoices.thresholds import threshold_of
 
 GREATEST = 9
 MOST_PAIRS = 4
@@ -16,18 +17,14 @@ MOST_PAIRS = 4
 def broken(protocol, wishes):
     """Returns the ascending list of the indexes of the wishes that do not hold."""
     check_wishes(protocol, wishes)
-    cases = Cases(protocol)
-    return [index for index, (word, goal) in enumerate(wishes) if cases.reached(goal, word == CALM) is not None]
+    return _broken_in(Sheet(protocol), wishes)
 
 
 def spare(protocol, wishes):
     """Returns the list of all that can be left out, each by itself, without a further wish being broken."""
     ahead = broken(protocol, wishes)
-    found = []
-    for left_out, other in all_left_out(protocol):
-        if all([index in ahead for index in broken(other, wishes)]):
-            found.append(left_out)
-    return found
+    held = [wish for index, wish in enumerate(wishes) if index not in ahead]
+    return [left_out for left_out, other in all_left_out(protocol) if _all_hold(Sheet(other), held)]
 
 
 def thresholds(protocol, name, index, box, wishes):
@@ -37,11 +34,13 @@ def thresholds(protocol, name, index, box, wishes):
     if not _is_box(box):
         raise BadBox(box)
     check_wishes(protocol, wishes)
+    sheet = Sheet(protocol, (name, index))
     told = {}
     for a in range(box[0], box[1] + 1):
         for b in range(box[2], box[3] + 1):
             for d in (0, 1):
-                told[(a, b, d)] = broken(with_threshold(protocol, rule, index, (a, b, d)), wishes)
+                sheet.exchange((a, b, d))
+                told[(a, b, d)] = _broken_in(sheet, wishes)
     return told
 
 
@@ -54,12 +53,12 @@ def parting(one, other):
     """Returns the first places that members can stand at together in one of two protocols alone, or None."""
     if one.places() != other.places():
         raise UnlikePlaces()
+    sheets = (Sheet(one), Sheet(other))
     for calm in (False, True):
-        ones = together(one, calm=calm)
-        others = together(other, calm=calm)
+        ones, others = [sets_together(sheet, calm) for sheet in sheets]
         for is_first, own, foreign in ((True, ones, others), (False, others, ones)):
             for places in own:
-                if not any([_is_part(places, greater) for greater in foreign]):
+                if not any([is_part(places, greater) for greater in foreign]):
                     return calm, is_first, places
     return None
 
@@ -69,10 +68,12 @@ def mending_thresholds(protocol, wishes):
     found = []
     for rule in protocol.rules():
         for index, condition in enumerate(rule.when):
-            threshold = Threshold(condition)
-            a, b, d = threshold.a, threshold.b, threshold.d
+            sheet = Sheet(protocol, (rule.name, index))
+            asked = threshold_of(condition)
+            a, b, d = asked.a, asked.b, asked.d
             for changed in [(a, b - 1, 0), (a, b - 1, 1), (a, b, 1 - d), (a, b + 1, 0), (a, b + 1, 1)]:
-                if not broken(with_threshold(protocol, rule, index, changed), wishes):
+                sheet.exchange(changed)
+                if _all_hold(sheet, wishes):
                     found.append((rule.name, index, changed))
     return found
 
@@ -83,8 +84,20 @@ def check_index(rule, thing):
         raise BadIndex(thing)
 
 
-def _is_part(places, greater):
-    return all([place in greater for place in places])
+def _holds(sheet, wish):
+    word, goal = wish
+    return first_case(sheet, sheet.comparison_sums(goal), word == CALM) is None
+
+
+def _broken_in(sheet, wishes):
+    return [index for index, wish in enumerate(wishes) if not _holds(sheet, wish)]
+
+
+def _all_hold(sheet, wishes):
+    for wish in wishes:
+        if not _holds(sheet, wish):
+            return False
+    return True
 
 
 def _is_box(thing):

@@ -37,9 +37,10 @@ class Bench:
         if not is_wish(self.protocol, wish):
             raise BadWish(0)
         word, goal = wish
+        holds = not broken(self.protocol, [wish])
         self._wishes[name] = (word, tuple(goal))
-        self._holding[name] = not broken(self.protocol, [wish])
-        return self._holding[name]
+        self._holding[name] = holds
+        return holds
 
     def unwatch(self, name):
         """Ends the watching of the wish with this name."""

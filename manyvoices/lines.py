@@ -32,18 +32,18 @@ class Line:
         if not self.skips(token):
             raise BadText(self.number)
 
-    def word(self):
+    def take_word(self):
         """Returns the row of letters that must come next."""
         return self._row_of(LETTERS)
 
-    def words(self):
+    def take_words(self):
         """Returns the list of one or more rows of letters that must make up the rest of the line."""
-        words = [self.word()]
+        words = [self.take_word()]
         while self.ahead():
-            words.append(self.word())
+            words.append(self.take_word())
         return words
 
-    def integer(self):
+    def take_integer(self):
         """Returns the integer that must come next."""
         return int(self._row_of(FIGURES))
 
@@ -55,7 +55,7 @@ class Line:
         """Tells whether a row of letters comes next."""
         return _begins_with(self.ahead(), LETTERS)
 
-    def end(self):
+    def finish(self):
         """Makes sure that no token is left."""
         if self.ahead():
             raise BadText(self.number)
@@ -82,7 +82,7 @@ class Page:
         """Tells whether no line is left."""
         return self._next == len(self._lines)
 
-    def line(self):
+    def next_line(self):
         """Returns the line that must come next."""
         if self.is_read():
             raise BadText(len(self._lines))

@@ -40,7 +40,7 @@ class Outlook:
         ]
         self._goal = [self._made_ready(comparison) for comparison in goal]
 
-    def first(self):
+    def beginning(self):
         """Returns the tuple of the standing from which it starts."""
         now = self._now
         lies = now.f if now.protocol.faults == "lying" else 0
@@ -124,7 +124,7 @@ class Outlook:
 def can_come(now, goal, calm):
     """Tells whether from a standing on, this one too, a standing can come that meets a goal (and is calm)."""
     outlook = Outlook(now, goal, calm)
-    first = outlook.first()
+    first = outlook.beginning()
     seen = {first: True}
     left = [first]
     while left:

@@ -5,6 +5,7 @@ from manyvoices.sheets import FAULTY, FIRST_WAY, MORE, bits_of
 from manyvoices.tables import CONSTANT, fresh_table
 from manyvoices.ways import STAYS
 
+
 def barring_triples(sheet, order, goal_sums, calm):
     """Returns the triples that a paper has with an order, or None if the goal can be met by it."""
     if order != ():

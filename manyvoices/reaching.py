@@ -1,7 +1,6 @@
 """What can come, whatever the numbers: runs to a goal, papers that there are none, and who can stand together."""
 
 from manyvoices.cases import all_cases, crowd_of, first_case
-from manyvoices.forms import at, at_least
 from manyvoices.goals import check_goal
 from manyvoices.papers import barring_triples, is_barring, longer_orders
 from manyvoices.sheets import FIRST_WAY, Sheet

@@ -16,7 +16,7 @@ class Sum:
 
     def __init__(self):
         self.form = 0 * members()
-        self.sorts = []
+        self.voices = []
 
     def add(self, form):
         """Adds a form without sorts."""
@@ -24,7 +24,7 @@ class Sum:
 
     def add_sort(self, sort, times):
         """Adds so many times a sort."""
-        self.sorts.append((sort, times))
+        self.voices.append((sort, times))
 
 
 def read_promise(line):
@@ -51,7 +51,7 @@ def _sides(line):
     if not line.skips(">=", ">", "<=", "<"):
         raise BadText(line.number)
     second = _read_sum(line)
-    sorts = [*first.sorts, *[(sort, -times) for sort, times in second.sorts]]
+    sorts = [*first.voices, *[(sort, -times) for sort, times in second.voices]]
     return first.form - second.form, sorts, sign
 
 
@@ -85,7 +85,7 @@ def _read_sign(line):
 def _read_part(line, total, factor):
     """Adds a part of a sum, so many times, to a total."""
     is_bare = not line.has_integer()
-    times = factor if is_bare else factor * line.integer()
+    times = factor if is_bare else factor * line.take_integer()
     if line.skips("("):
         total.add_sort(_read_sort(line), times)
         while line.skips("+"):
@@ -104,4 +104,4 @@ def _read_part(line, total, factor):
 def _read_sort(line):
     if line.ahead() in RESERVED:
         raise BadText(line.number)
-    return line.word()
+    return line.take_word()

@@ -25,7 +25,7 @@ class Table:
         self.heads = heads
         self.sides = sides
         self.rows = rows
-        self.watched = []
+        self._watched = []
 
     def grown(self, sums):
         """Returns a table of these sums, too, with the same free unknowns."""
@@ -35,7 +35,7 @@ class Table:
 
     def watch(self, sums):
         """Watches these sums, which need not be at least 0; their places in the list are their names."""
-        self.watched = [self._told(total) for total in sums]
+        self._watched = [self._told(total) for total in sums]
 
     def settle(self, columns):
         """Makes no sum below 0 while the free unknowns are 0, by exchanging those of these columns alone.
@@ -58,25 +58,25 @@ class Table:
     def measure_by(self, place):
         """Makes a watched sum, now above 0, the unit; the unit that was is watched behind all others."""
         self.sides.append(self._width + len(self.rows))
-        self.rows.append(self.watched[place])
+        self.rows.append(self._watched[place])
         self._exchange(len(self.rows) - 1, CONSTANT)
-        self.watched.append(self.rows[-1])
+        self._watched.append(self.rows[-1])
 
     def drive(self, place, sign, columns):
         """Makes a watched sum as great (sign 1) or as small (sign -1) as it can be, by these columns alone."""
-        column = self._first_rising(self.watched[place], sign, columns)
+        column = self._first_rising(self._watched[place], sign, columns)
         while column is not None:
             self._exchange(self._tightest(column), column)
-            column = self._first_rising(self.watched[place], sign, columns)
+            column = self._first_rising(self._watched[place], sign, columns)
 
     def unmoving(self, place, columns):
         """Returns those of the columns whose unknowns leave a watched sum as it is."""
-        row = self.watched[place]
+        row = self._watched[place]
         return [column for column in columns if row[column] == 0]
 
     def amount(self, place):
         """Returns how much a watched sum is while the free unknowns are 0, as a pair (above, below)."""
-        row = self.watched[place]
+        row = self._watched[place]
         return row[CONSTANT], row[SCALE]
 
     def amounts(self):
@@ -139,7 +139,7 @@ class Table:
         solved = _solved(self.rows[index], column)
         self.rows = [_mixed(row, row[column], solved, column) if row[column] else row for row in self.rows]
         self.rows[index] = solved
-        self.watched = [_mixed(row, row[column], solved, column) if row[column] else row for row in self.watched]
+        self._watched = [_mixed(row, row[column], solved, column) if row[column] else row for row in self._watched]
         self.heads[column], self.sides[index] = self.sides[index], self.heads[column]
 
 

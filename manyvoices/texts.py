@@ -4,19 +4,19 @@ from manyvoices.errors import BadRun, BadText, NoText, VoiceError
 from manyvoices.lines import Page
 from manyvoices.protocols import Rule, Scheme
 from manyvoices.runs import is_run
-from manyvoices.thresholds import threshold_of
 from manyvoices.standings import Standing, are_numbers, begun_in_all, going
 from manyvoices.sums import AND, BOUND, MEMBERS, RESERVED, SAYS, read_condition, read_promise
+from manyvoices.thresholds import threshold_of
 
 
 def read(text):
     """Returns the protocol of a text."""
     page = Page(text)
-    protocol = _read_on(_with_places, None, page.line())
-    protocol = _read_on(_with_begins, protocol, page.line())
-    protocol = _read_on(_with_faults, protocol, page.line())
+    protocol = _read_on(_with_places, None, page.next_line())
+    protocol = _read_on(_with_begins, protocol, page.next_line())
+    protocol = _read_on(_with_faults, protocol, page.next_line())
     while not page.is_read():
-        protocol = _read_on(_with_more, protocol, page.line())
+        protocol = _read_on(_with_more, protocol, page.next_line())
     return protocol
 
 
@@ -46,17 +46,17 @@ def run_text(protocol, run):
 def run_from(protocol, text):
     """Returns the run of a text."""
     page = Page(text)
-    n, t, f = _read_numbers(protocol, page.line())
+    n, t, f = _read_numbers(protocol, page.next_line())
     begun = []
     for place in protocol.begins():
-        line = page.line()
+        line = page.next_line()
         begun.append((place, _read_begun(line, place)))
     if begun_in_all(begun) != going(protocol, n, f):
         raise BadText(line.number)
     now = Standing(protocol, (n, t, f), begun)
     steps = []
     while not page.is_read():
-        steps.append(_read_step(now, page.line()))
+        steps.append(_read_step(now, page.next_line()))
     return n, t, f, begun, steps
 
 
@@ -70,20 +70,20 @@ def _read_on(step, protocol, line):
 
 def _with_places(_, line):
     line.expect("places")
-    places = line.words()
+    places = line.take_words()
     # the beginnings that are still to come are some of the places, so one will do for now
     return Scheme(places, places[:1], [])
 
 
 def _with_begins(protocol, line):
     line.expect("begins")
-    return Scheme(protocol.places(), line.words(), [])
+    return Scheme(protocol.places(), line.take_words(), [])
 
 
 def _with_faults(protocol, line):
     line.expect("faults")
-    word = line.word()
-    line.end()
+    word = line.take_word()
+    line.finish()
     return protocol.but(faults=word)
 
 
@@ -91,24 +91,24 @@ def _with_more(protocol, line):
     rules = protocol.rules()
     if not rules and line.skips("promise"):
         promise = read_promise(line)
-        line.end()
+        line.finish()
         return protocol.but(promise=[*protocol.promise(), promise])
     line.expect("rule")
     return protocol.but(rules=[*rules, _read_rule(line)])
 
 
 def _read_rule(line):
-    name = line.word()
-    start = line.word()
+    name = line.take_word()
+    start = line.take_word()
     line.expect("to")
-    end = line.word()
+    end = line.take_word()
     when = []
     if line.skips("when"):
         when.append(read_condition(line))
         while line.skips(AND):
             when.append(read_condition(line))
-    says = line.words() if line.skips(SAYS) else []
-    line.end()
+    says = line.take_words() if line.skips(SAYS) else []
+    line.finish()
     return Rule(name, start, end, when, says)
 
 
@@ -116,8 +116,8 @@ def _read_numbers(protocol, line):
     numbers = []
     for word in ("members", "bound", "faulty"):
         line.expect(word)
-        numbers.append(line.integer())
-    line.end()
+        numbers.append(line.take_integer())
+    line.finish()
     n, t, f = numbers
     if not are_numbers(protocol, n, t, f):
         raise BadText(line.number)
@@ -127,15 +127,15 @@ def _read_numbers(protocol, line):
 def _read_begun(line, place):
     line.expect("begun")
     line.expect(place)
-    many = line.integer()
-    line.end()
+    many = line.take_integer()
+    line.finish()
     return many
 
 
 def _read_step(now, line):
     """Returns the step of a line, and does it in the standing now."""
-    step = (line.word(), line.word(), line.integer())
-    line.end()
+    step = (line.take_word(), line.take_word(), line.take_integer())
+    line.finish()
     if not now.can_do(step):
         raise BadText(line.number)
     now.do(step)

@@ -194,6 +194,44 @@ class Language(unittest.TestCase):
                 }
                 self.assertEqual(methods & held, set(), (name, node.name))
 
+    def test_methods_and_attributes_of_all_classes_have_unlike_names(self):
+        # more strictly than L18
+        methods, held = set(), set()
+        for tree in trees().values():
+            for node in nodes(tree, ast.ClassDef):
+                methods |= {part.name for part in node.body if isinstance(part, ast.FunctionDef)}
+            held |= {node.attr for node in nodes(tree, ast.Attribute) if isinstance(node.ctx, ast.Store)}
+        self.assertEqual(methods & held, set())
+
+    def test_finally_assigns_names_alone(self):
+        # L6, and more strictly: no other statements, and names that are assigned ahead of the try
+        for name, tree in trees().items():
+            for function in functions(tree):
+                ahead = set(bound_names(function))
+                for node in nodes(function, ast.Try):
+                    for statement in node.finalbody:
+                        self.assertIs(type(statement), ast.Assign, (name, statement.lineno))
+                        values = statement.value.elts if isinstance(statement.value, ast.Tuple) else [statement.value]
+                        self.assertTrue(all(isinstance(part, ast.Name) and part.id in ahead for part in values))
+
+    def test_handlers_catch_own_errors(self):
+        # L19, and more strictly: none of Python's own
+        own = {node.name for tree in trees().values() for node in nodes(tree, ast.ClassDef)}
+        for name, tree in trees().items():
+            for node in nodes(tree, ast.ExceptHandler):
+                self.assertIn(getattr(node.type, "id", None), own, (name, node.lineno))
+            for node in nodes(tree, ast.Raise):
+                self.assertIn(getattr(node.exc.func, "id", None), own, (name, node.lineno))
+
+    def test_strings_inside_of_strings(self):
+        # L27: an f-string stands on one line, and those within its braces have the other quote
+        for path, text in files().items():
+            for line in text.splitlines():
+                if re.search(r"f'|\bf\"\"\"|rf\"|fr\"", line):
+                    self.fail((path, line))
+            for node in nodes(ast.parse(text), ast.JoinedStr):
+                self.assertEqual(node.lineno, node.end_lineno, path)
+
     def test_what_is_iterated_stands_on_the_spot(self):
         # L23: zip, enumerate, reversed and the views of dicts are iterated where they stand, ranges too
         takers = {"list", "tuple", "dict", "sorted", "sum", "any", "all", "enumerate", "zip", "min", "max"}

@@ -375,6 +375,16 @@ class Together(unittest.TestCase):
             for calm in (False, True):
                 self.check_lists(protocol, together(protocol, calm=calm), calm)
 
+    def test_each_list_is_told_once(self):
+        source = random.Random(23)
+        several = 0
+        for number in range(90):
+            protocol = made.vote(source, made.FAULTS[number % 3])
+            told = together(protocol, calm=True)
+            several += len(told) > 2
+            self.check_lists(protocol, told, True)
+        self.assertGreater(several, 1)
+
     def test_order_of_the_lists(self):
         # n is either at most 2 t, and all go to the last place, or above it, and they go to the middle one
         for heard_of in [["x"], ["x", "y"]]:

@@ -14,7 +14,7 @@ TURN = "turn"
 PROMISE = "promise"
 UNDER = "under"
 # how long the tuple of a deed is, by its word
-LENGTHS = {PUT: 2, DROP: 2, TURN: 4, PROMISE: 2, UNDER: 2}
+LENGTHS = {"put": 2, "drop": 2, "turn": 4, "promise": 2, "under": 2}
 
 
 class Bench:

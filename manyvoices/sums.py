@@ -8,7 +8,7 @@ BOUND = "t"
 AND = "and"
 SAYS = "says"
 # words that are no sorts where sums are read
-RESERVED = (MEMBERS, BOUND, AND, SAYS)
+RESERVED = ("n", "t", "and", "says")
 
 
 class Sum:

@@ -479,6 +479,39 @@ class Can(unittest.TestCase):
                         answer = group.can(goal)
                         self.assertIs(answer, any(search.meets(now, goal) for now in small))
 
+    def test_a_cut_is_needed(self):
+        # one voice in full and one that only some hear are enough for one to end, but the others do not hear it surely
+        group = Group(echo(faults="stopping"), 3, 1, 1, [("old", 1), ("news", 2)])
+        goal = [at_least(at("done"), 1), at_least(bound(), said("echo"))]
+        self.assertIs(group.can(goal), True)
+        self.assertIs(group.can([*goal, at_least(at("old"), 1)], calm=True), True)
+        group.stop("old")
+        self.assertIs(group.can(goal), False)
+
+    def test_single_standings(self):
+        # goals that tell just how many stand somewhere, and how many voices there are
+        source = random.Random(98)
+        found = {True: 0, False: 0}
+        for number in range(40):
+            protocol = made.vote(source, made.FAULTS[number % 3]) if number % 2 else echo(faults=made.FAULTS[number % 3])
+            group = a_group(source, protocol)
+            if group is None:
+                continue
+            small = all_that_can_come(protocol, group.run())
+            calm = [now for now in small if search.is_calm(protocol, now)]
+            forms = [(("at", place), at(place)) for place in protocol.places()]
+            forms += [(("said", sort), said(sort)) for sort in protocol.sorts()] * 3
+            for _ in range(12):
+                now, goal = source.choice(small), []
+                for term, form in source.sample(forms, 2):
+                    parted = now[("n",)] * form - max(0, now[term] + source.choice([0, 0, 0, 1, -1])) * members()
+                    goal.extend([at_least(parted, 0), at_least(0, parted)])
+                for is_asked, standings in ((False, small), (True, calm)):
+                    answer = group.can(goal, calm=is_asked)
+                    self.assertIs(answer, any(search.meets(one, goal) for one in standings))
+                    found[answer] += 1
+        self.assertGreater(min(found.values()), 100, found)
+
     def test_wrong_goals_and_too_many_members(self):
         small, great = four(), Group(echo(), 5, 1, 1, [("old", 4)])
         fits = at_least(at("old"), 1)

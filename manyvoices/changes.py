@@ -1,45 +1,34 @@
-"""Protocols like another one: with something left out, or with another condition."""
+"""What makes a protocol another one: something left out, or another condition."""
 
 from manyvoices.protocols import Rule
+
+RULE = "rule"
+WHEN = "when"
+PROMISE = "promise"
 
 
 def with_condition(protocol, rule, index, condition):
     """Returns the protocol in which a rule has another condition at an index."""
-    return _with_conditions(protocol, rule, [*rule.when[:index], condition, *rule.when[index + 1 :]])
+    when = [*rule.when[:index], condition, *rule.when[index + 1 :]]
+    return protocol.but(rules=_with_when(protocol.rules(), rule, when))
 
 
 def all_left_out(protocol):
-    """Returns a pair for all that can be left out: what it is, and the protocol without it."""
-    return [*_without_rules(protocol), *_without_conditions(protocol), *_without_promises(protocol)]
-
-
-def _with_conditions(protocol, changed, when):
-    instead = Rule(changed.name, changed.start, changed.end, when, changed.says)
-    return protocol.but(rules=[instead if rule.name == changed.name else rule for rule in protocol.rules()])
-
-
-def _without_rules(protocol):
+    """Returns a triple for all that can be left out: what it is, and the rules and the promises without it."""
     rules = protocol.rules()
-    pairs = []
-    for index, rule in enumerate(rules):
-        others = [*rules[:index], *rules[index + 1 :]]
-        pairs.append((("rule", rule.name), protocol.but(rules=others)))
-    return pairs
-
-
-def _without_conditions(protocol):
-    pairs = []
-    for rule in protocol.rules():
-        for index in range(len(rule.when)):
-            others = [*rule.when[:index], *rule.when[index + 1 :]]
-            pairs.append((("when", rule.name, index), _with_conditions(protocol, rule, others)))
-    return pairs
-
-
-def _without_promises(protocol):
     promises = protocol.promise()
-    pairs = []
-    for index in range(len(promises)):
-        others = [*promises[:index], *promises[index + 1 :]]
-        pairs.append((("promise", index), protocol.but(promise=others)))
-    return pairs
+    found = [((RULE, rule.name), _without(rules, index), promises) for index, rule in enumerate(rules)]
+    for rule in rules:
+        for index in range(len(rule.when)):
+            others = _with_when(rules, rule, _without(rule.when, index))
+            found.append(((WHEN, rule.name, index), others, promises))
+    return [*found, *[((PROMISE, index), rules, _without(promises, index)) for index in range(len(promises))]]
+
+
+def _without(things, index):
+    return [*things[:index], *things[index + 1 :]]
+
+
+def _with_when(rules, changed, when):
+    instead = Rule(changed.name, changed.start, changed.end, when, changed.says)
+    return [instead if rule.name == changed.name else rule for rule in rules]

@@ -1,32 +1,46 @@
 """Counts members one by one, where it is told how many there are."""
 
-from manyvoices.cases import Crowd
+from manyvoices.crowds import Crowd
 from manyvoices.sheets import FAULTY, FIRST_WAY, MORE
 from manyvoices.tables import CONSTANT
 from manyvoices.ways import STAYS
 
 
-class Count:
-    """A case ready to be looked at for told numbers."""
+def counted_crowd(sheet, sums, calm, many):
+    """Returns a crowd of just these numbers n, t, f that comes to meet sums (and to be calm), or None."""
+    # who has stopped is told by the ways, so that no more stop than are faulty has to be asked for
+    left = [([*sums, *sheet.base, *sheet.last_sums()[3:]], (1 << len(sheet.thresholds)) - 1)]
+    while left:
+        asked, within = left.pop()
+        amounts = Count(sheet, asked).amounts(many)
+        if amounts is not None:
+            crowd = Crowd(sheet, amounts)
+            needed = crowd.what_else(within, calm)
+            if not needed:
+                return crowd
+            left.extend([([*asked, total], bits) for total, bits in needed])
+    return None
 
-    def __init__(self, sheet, case):
-        self.case = case
+
+class Count:
+    """Sums ready to be met by told numbers of members."""
+
+    def __init__(self, sheet, sums):
         self._stopping = sheet.stopping
-        # who has stopped is told by the ways, so that no more stop than are faulty has to be asked for
-        self._sums = [*sheet.order_sums(case.order), *case.sums, *sheet.last[3:]]
-        ways = [column for column in case.columns if column >= FIRST_WAY]
+        self._sums = sums
+        # from what a way is worth in the sums to its column, and whether who goes it stops
         worths = {}
-        for column in ways:
-            way = sheet.ways[column - FIRST_WAY]
+        for column, way in enumerate(sheet.ways, FIRST_WAY):
             idle = 0 if way.ending == STAYS else 1
-            worths.setdefault(tuple([total[column] - idle * total[FAULTY] for total in self._sums]), way)
+            worths.setdefault(tuple([total[column] - idle * total[FAULTY] for total in sums]), (column, idle))
         self._worths = [pair for pair in worths.items() if not _is_outdone(pair[0], list(worths))]
-        columns = [[mine[place] for mine, _ in self._worths] for place in range(len(self._sums))]
+        columns = [[mine[place] for mine, _ in self._worths] for place in range(len(sums))]
         self._least = [min(column, default=0) for column in columns]
         self._most = [max(column, default=0) for column in columns]
 
-    def crowd(self, n, t, f):
-        """Returns a crowd of just these numbers that meets all sums, or None."""
+    def amounts(self, many):
+        """Returns the numbers of a crowd of just these numbers n, t, f that meets all sums, or None."""
+        n, t, f = many
         going = n if self._stopping else n - f
         lacking = [-total[CONSTANT] - total[MORE] * (t - f) - total[FAULTY] * f for total in self._sums]
         # from what the sums still lack to ways of members by which it comes to that
@@ -34,8 +48,17 @@ class Count:
         for left in reversed(range(going)):
             level = self._one_more(level, left)
         for chosen in level.values():
-            return Crowd(t, f, [(way, chosen.count(place)) for place, (_, way) in enumerate(self._worths)])
+            return self._told(t - f, f, chosen)
         return None
+
+    def _told(self, more, f, chosen):
+        """Returns the numbers by their columns; those that stop are faulty, too."""
+        amounts = {MORE: more, FAULTY: f}
+        for place in chosen:
+            _, (column, idle) = self._worths[place]
+            amounts[column] = amounts.get(column, 0) + 1
+            amounts[FAULTY] -= idle
+        return {column: amount for column, amount in amounts.items() if amount > 0}
 
     def _one_more(self, level, left):
         """Returns what the sums lack with one member more, where those that are left can bring it."""

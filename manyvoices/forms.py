@@ -147,11 +147,14 @@ def _rank(term):
 
 
 def _sum(one, other):
-    ones = {term: integer for term, integer in one._pairs}
-    others = {term: integer for term, integer in other._pairs}
-    terms = sorted([*ones, *[term for term in others if term not in ones]], key=_rank)
-    pairs = [(term, ones.get(term, 0) + others.get(term, 0)) for term in terms]
-    return Form([pair for pair in pairs if pair[1] != 0], one.rest + other.rest)
+    rest = one.rest + other.rest
+    if not one._pairs or not other._pairs:
+        return Form(one._pairs or other._pairs, rest)
+    integers = dict(one._pairs)
+    for term, integer in other._pairs:
+        integers[term] = integers.get(term, 0) + integer
+    terms = sorted([term for term in integers if integers[term] != 0], key=_rank)
+    return Form([(term, integers[term]) for term in terms], rest)
 
 
 def _times(form, factor):
@@ -163,7 +166,7 @@ def _times(form, factor):
 
 def _compared(one, other, least):
     """Returns the comparison that one less the other is at least the integer least."""
-    form = _as_form(one) - _as_form(other)
+    form = _sum(_as_form(one), _times(_as_form(other), -1))
     pairs = form.terms()
     if not pairs:
         raise NoTerms()

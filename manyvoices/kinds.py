@@ -1,6 +1,5 @@
 """Tells of any objects whether they are integers, lists, words."""
 
-LETTERS = "abcdefghijklmnopqrstuvwxyz"
 LONGEST_WORD = 8
 
 
@@ -21,9 +20,9 @@ def is_row(thing, length):
 
 def is_word(thing):
     """Tells whether a thing is a string of one to eight letters a to z."""
-    if not isinstance(thing, str) or not 1 <= len(thing) <= LONGEST_WORD:
+    if not isinstance(thing, str) or len(thing) > LONGEST_WORD:
         return False
-    return all([sign in LETTERS for sign in thing])
+    return thing.isascii() and thing.isalpha() and thing.islower()
 
 
 def first_unfit(words):

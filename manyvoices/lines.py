@@ -1,8 +1,8 @@
 """Lines of texts, and the tokens of which they consist."""
 
 from manyvoices.errors import BadText
-from manyvoices.kinds import LETTERS
 
+LETTERS = "abcdefghijklmnopqrstuvwxyz"
 FIGURES = "0123456789"
 LONG_SIGNS = (">=", "<=")
 SHORT_SIGNS = "()+-<>"

@@ -99,29 +99,26 @@ def _all_few(sheet, calm):
 def _sums_of(sheet, order, few, goal_sums):
     """Returns the sums of a triple, in the order of the weights."""
     unmet = [sheet.unmet_sum(number) for number in few or ()]
-    return [*sheet.order_sums(order), *sheet.promises, *goal_sums, *unmet, *sheet.last]
+    return [*sheet.order_sums(order), *sheet.promises, *goal_sums, *unmet, *sheet.last_sums()]
 
 
 def _open_columns(sheet, order, few, calm):
     """Returns the columns of the unknowns that need not be 0 in a triple."""
-    columns = sheet.open_columns(bits_of(order))
-    if few is None or not calm:
-        return columns
-    barred = sheet.barred_places(bits_of(few))
-    return [column for column in columns if column < FIRST_WAY or sheet.way(column).end not in barred]
+    barred = [] if few is None or not calm else sheet.barred_places(few)
+    return sheet.open_columns(bits_of(order), barred)
 
 
 def _barring_weights(sheet, order, few, goal_sums, calm):
     """Returns weights that bar, or None if there are none."""
     sums = _sums_of(sheet, order, few, goal_sums)
-    table = fresh_table(sums)
-    stuck = table.settle(_open_columns(sheet, order, few, calm))
+    table = fresh_table(sums, _open_columns(sheet, order, few, calm))
+    stuck = table.settle()
     if stuck is None:
         return None
     often = table.reasons(stuck)
     weights = [often.get(name, 0) for name in range(len(sums[0]), len(sums[0]) + len(sums))]
     # that the unknowns of MORE and FAULTY are 0 or more is said by sums, too, which have weights
-    weights[-len(sheet.last)] += often.get(MORE, 0)
+    weights[-len(sheet.last_sums())] += often.get(MORE, 0)
     if sheet.stopping:
         weights[-1] += often.get(FAULTY, 0)
     return weights
@@ -140,5 +137,6 @@ def _bars(sheet, order, few, goal_sums, weights, calm):
     t = total[MORE]
     f = total[FAULTY] - t
     # who stops is a faulty one, for whom t and f count, too
-    worths = [total[column] - (0 if sheet.way(column).ending == STAYS else total[FAULTY]) for column in columns]
+    idle = [0 if way.ending == STAYS else total[FAULTY] for way in sheet.ways]
+    worths = [total[column] - idle[column - FIRST_WAY] for column in columns]
     return t <= 0 and max(worths) <= 0 and f <= 0 and total[CONSTANT] < 0

@@ -176,24 +176,34 @@ def _may_stand(places, earlier, thing):
         return False
     if thing.start not in places or thing.end not in places:
         return False
-    rules = [*earlier, thing]
-    return thing.start not in _places_behind(rules, thing.end) and not _says_twice(rules)
+    behind = _places_linked([(rule.start, rule.end) for rule in earlier], thing.end)
+    if thing.start in behind:
+        return False
+    ahead = _places_linked([(rule.end, rule.start) for rule in earlier], thing.start)
+    return not _says_twice(thing, earlier, ahead, behind)
 
 
-def _places_behind(rules, place):
-    """Returns the places to which ways lead from a place, with this place itself."""
-    behind = [place]
-    # no way goes by a rule twice, so there are no more sweeps to do than rules
-    for _ in rules:
-        behind = behind + [rule.end for rule in rules if rule.start in behind and rule.end not in behind]
-    return behind
+def _places_linked(steps, place):
+    """Returns the places to which steps, pairs of places, lead from a place, with this place itself."""
+    linked = [place]
+    last = [place]
+    while last:
+        last = [end for start, end in steps if start in last and end not in linked]
+        linked = linked + last
+    return linked
 
 
-def _says_twice(rules):
-    """Tells whether some way by these rules says a sort twice; none may lead back to its start."""
-    for first in rules:
-        behind = _places_behind(rules, first.end)
-        for later in rules:
-            if later.start in behind and any([sort in first.says for sort in later.says]):
+def _says_twice(new, earlier, ahead, behind):
+    """Tells whether some way by a new rule, and perhaps earlier ones, says a sort twice.
+
+    None does by the earlier rules alone. ahead holds the places from which
+    ways lead to the start of the new rule, behind those to which they lead
+    from its end.
+    """
+    ones = [new, *[rule for rule in earlier if rule.end in ahead]]
+    others = [new, *[rule for rule in earlier if rule.start in behind]]
+    for one in ones:
+        for other in others:
+            if one.name != other.name and any([sort in one.says for sort in other.says]):
                 return True
     return False

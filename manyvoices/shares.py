@@ -1,10 +1,10 @@
 """Shares: what a form can be by the number of members."""
 
-from manyvoices.cases import first_case
 from manyvoices.errors import BadForm
 from manyvoices.forms import Form, bound, members
 from manyvoices.goals import CALM, check_goal, check_wishes
 from manyvoices.intervals import joined, lowest_terms
+from manyvoices.questions import Question
 from manyvoices.sheets import Sheet
 from manyvoices.tables import CONSTANT, SCALE
 
@@ -26,7 +26,7 @@ def shares(protocol, goal, form, *, calm=False):
 def borne(protocol, wishes):
     """Returns the intervals of the shares of t at which, without the promises, some wish is broken."""
     check_wishes(protocol, wishes)
-    sheet = Sheet(protocol.but(promise=()))
+    sheet = Sheet(protocol, promise=())
     return shares_in(sheet, sheet.form_sum(bound()), broken_by(sheet, wishes))
 
 
@@ -42,15 +42,18 @@ def shares_in(sheet, shared, asked):
     # each gap is told by the sums that a share is above its low end, if any, and below its high end
     gaps = [([], [])]
     for sums, calm in asked:
+        question = Question(sheet, sums, calm)
         left = gaps
         gaps = []
+        # each turn finds all shares of those that go by one order, and calm by one choice of conditions, in a gap:
+        # as what it leaves holds none of these any more, the turns come to an end
         while left:
             above, below = left.pop()
-            case = first_case(sheet, [*above, *below, *sums], calm)
-            if case is None:
+            crowd = question.crowd([*above, *below])
+            if crowd is None:
                 gaps.append((above, below))
             else:
-                low, is_low, high, is_high = _interval(case, watched)
+                low, is_low, high, is_high = _interval(question.case(crowd, [*above, *below]), watched)
                 found.append((low, is_low, high, is_high))
                 left.append((above, [_beyond(watched, low, is_low, -1)]))
                 left.append(([_beyond(watched, high, is_high, 1)], below))
@@ -81,21 +84,21 @@ def _beyond(watched, end, is_end, sign):
     return total
 
 
-def _interval(case, watched):
-    """Returns the interval of the shares in a case."""
-    table = case.table.grown([])
+def _interval(table, watched):
+    """Returns the interval of the shares that a settled table leaves."""
     table.watch(watched)
     # by the members, the unit is 0 where the shares are only come near, with ever more members
     table.measure_by(MEMBERS)
-    high, is_high = _farthest(table, 1, case.columns)
-    low, is_low = _farthest(table, -1, case.columns)
+    high, is_high = _farthest(table, 1)
+    low, is_low = _farthest(table, -1)
     return low, is_low, high, is_high
 
 
-def _farthest(table, sign, columns):
+def _farthest(table, sign):
     """Returns the greatest (sign 1) or the least (sign -1) share, and whether it is one that can be had."""
-    table.drive(FORM, sign, columns)
+    table.drive(FORM, sign, table.columns)
     above, below = table.amount(FORM)
-    # only what leaves the share as it is may rise behind this
-    table.drive(UNIT, 1, table.unmoving(FORM, columns))
+    if table.amount(UNIT)[0] == 0:
+        # only what leaves the share as it is may rise behind this
+        table.drive(UNIT, 1, table.unmoving(FORM))
     return lowest_terms(above, below), table.amount(UNIT)[0] > 0

@@ -3,12 +3,11 @@
 from manyvoices.ways import CUT, STOPS, rules_in_turn
 
 
-def run_of(protocol, order, crowd):
+def run_of(protocol, crowd):
     """Returns the run in which a crowd goes its ways, stage by stage."""
-    going = sum([many for _, many in crowd.goers])
-    n = going if protocol.faults == "stopping" else going + crowd.f
+    n, t, f = crowd.n_t_f()
     begun = [(place, _begun_at(crowd.goers, place)) for place in protocol.begins()]
-    return n, crowd.t, crowd.f, begun, _steps(protocol, order, crowd.goers)
+    return n, t, f, begun, _steps(protocol, crowd.order, crowd.goers)
 
 
 def _begun_at(goers, place):
@@ -24,7 +23,7 @@ def _steps(protocol, order, goers):
             for word in ("go", "cut"):
                 steps.append((word, rule.name, taken.get((stage, word, rule.name), 0)))
     # who stops has done all that it does, so it may as well stop in the end
-    steps.extend([("stop", way.last_place(), many) for way, many in goers if way.ending == STOPS])
+    steps.extend([("stop", way.last, many) for way, many in goers if way.ending == STOPS])
     return [step for step in steps if step[2] > 0]
 
 

@@ -16,63 +16,75 @@ class Table:
     of the free unknowns, b times the second one, and so on; s is positive.
     Each sum is an unknown, too: it may change places with a free one. The
     name of an unknown is its place in the sums that are passed, from FIRST
-    on; the names of the sums follow. heads are the names of the free unknowns
-    by their columns, sides those of the others by their rows.
+    on, each of so many numbers as width tells; the names of the sums follow,
+    up to behind. heads are the names of the free unknowns by their columns,
+    sides those of the others by their rows.
     """
 
-    def __init__(self, width, heads, sides, rows):
+    def __init__(self, width, behind, heads, sides, rows):
+        self.columns = list(range(FIRST, len(heads)))
         self._width = width
-        self.heads = heads
-        self.sides = sides
-        self.rows = rows
+        self._behind = behind
+        self._heads = heads
+        self._sides = sides
+        self._rows = rows
         self._watched = []
+        # where the free unknowns stand in sums, and the pairs (name, row) of the others; None if not looked up
+        self._places = None
+        self._exchanged = []
 
     def grown(self, sums):
-        """Returns a table of these sums, too, with the same free unknowns."""
-        first = self._width + len(self.rows)
-        sides = self.sides + list(range(first, first + len(sums)))
-        return Table(self._width, list(self.heads), sides, [*self.rows, *[self._told(total) for total in sums]])
+        """Returns a table of these sums, too, or None if one of them is below 0, whatever the unknowns are."""
+        told = self._told(sums)
+        for row in told:
+            if row[CONSTANT] < 0 and max(row[FIRST:], default=0) <= 0:
+                return None
+        behind = self._behind + len(sums)
+        sides = self._sides + list(range(self._behind, behind))
+        return Table(self._width, behind, list(self._heads), sides, self._rows + told)
 
-    def watch(self, sums):
-        """Watches these sums, which need not be at least 0; their places in the list are their names."""
-        self._watched = [self._told(total) for total in sums]
+    def trim(self):
+        """Leaves out sums that cannot come below 0, whatever the unknowns are."""
+        kept = [place for place, row in enumerate(self._rows) if self._sides[place] < self._width or min(row) < 0]
+        self._sides = [self._sides[place] for place in kept]
+        self._rows = [self._rows[place] for place in kept]
 
-    def settle(self, columns):
-        """Makes no sum below 0 while the free unknowns are 0, by exchanging those of these columns alone.
+    def settle(self):
+        """Makes no sum below 0 while the free unknowns are 0, by exchanging some.
 
         It returns None, or the index of a sum that is always below 0.
         """
         index = self._first_below()
         while index is not None:
-            column = self._first_rising(self.rows[index], 1, columns)
+            column = self._first_rising(self._rows[index], self.columns)
             if column is None:
                 return index
             self._exchange(index, column)
             index = self._first_below()
         return None
 
-    def stands_on(self, columns):
-        """Tells whether no unknowns but those of these columns, when all were free, have changed places."""
-        return all([name in columns for name in self.sides if name < self._width])
+    def watch(self, sums):
+        """Watches these sums, which need not be at least 0; their places in the list are their names."""
+        self._watched = self._told(sums)
 
     def measure_by(self, place):
         """Makes a watched sum, now above 0, the unit; the unit that was is watched behind all others."""
-        self.sides.append(self._width + len(self.rows))
-        self.rows.append(self._watched[place])
-        self._exchange(len(self.rows) - 1, CONSTANT)
-        self._watched.append(self.rows[-1])
+        self._sides.append(self._behind)
+        self._rows.append(self._watched[place])
+        self._exchange(len(self._rows) - 1, CONSTANT)
+        self._watched.append(self._rows[-1])
 
     def drive(self, place, sign, columns):
         """Makes a watched sum as great (sign 1) or as small (sign -1) as it can be, by these columns alone."""
-        column = self._first_rising(self._watched[place], sign, columns)
+        column = self._first_rising([sign * number for number in self._watched[place]], columns)
         while column is not None:
             self._exchange(self._tightest(column), column)
-            column = self._first_rising(self._watched[place], sign, columns)
+            column = self._first_rising([sign * number for number in self._watched[place]], columns)
 
-    def unmoving(self, place, columns):
-        """Returns those of the columns whose unknowns leave a watched sum as it is."""
+    def unmoving(self, place):
+        """Returns the columns of the free unknowns that leave a watched sum as it is."""
         row = self._watched[place]
-        return [column for column in columns if row[column] == 0]
+        return [column for column in self.columns if row[column] == 0]
 
     def amount(self, place):
         """Returns how much a watched sum is while the free unknowns are 0, as a pair (above, below)."""
@@ -80,11 +92,11 @@ class Table:
         return row[CONSTANT], row[SCALE]
 
     def amounts(self):
-        """Returns the dict from the unknowns that are not free to how much they are, as pairs (above, below)."""
-        told = {}
-        for name, row in zip(self.sides, self.rows):
-            if name < self._width:
-                told[name] = (row[CONSTANT], row[SCALE])
+        """Returns how much the unknowns are that are above 0, as triples (name, above, below)."""
+        told = []
+        for name, row in zip(self._sides, self._rows):
+            if name < self._width and row[CONSTANT] > 0:
+                told.append((name, row[CONSTANT], row[SCALE]))
         return told
 
     def reasons(self, index):
@@ -92,61 +104,74 @@ class Table:
 
         It is a dict from their names; what it lacks is not added.
         """
-        row = self.rows[index]
-        often = {self.heads[column]: -row[column] for column in range(FIRST, self._width)}
-        often[self.sides[index]] = row[SCALE]
+        row = self._rows[index]
+        often = {self._heads[column]: -row[column] for column in self.columns}
+        often[self._sides[index]] = row[SCALE]
         return often
 
-    def _told(self, total):
-        """Returns the row that tells a sum by the free unknowns."""
-        row = [total[name] if name < self._width else 0 for name in self.heads]
-        for name, other in zip(self.sides, self.rows):
-            if name < self._width and total[name] != 0:
-                row = _mixed(row, row[SCALE] * total[name], other, SCALE)
-        return row
+    def _told(self, sums):
+        """Returns the rows that tell sums by the free unknowns."""
+        if self._places is None:
+            # a sum has none of what stands behind its end
+            self._places = [min(name, self._width) for name in self._heads]
+            self._exchanged = [pair for pair in zip(self._sides, self._rows) if pair[0] < self._width]
+        told = []
+        for total in sums:
+            longer = [*total, 0]
+            row = [longer[place] for place in self._places]
+            for name, other in self._exchanged:
+                if total[name] != 0:
+                    row = _added(row, total[name], other)
+            told.append(row)
+        return told
 
     # Of several rows or columns always the one with the least name is taken,
     # so that no exchange comes back to where it was.
 
     def _first_below(self):
         found = None
-        for index, row in enumerate(self.rows):
-            if row[CONSTANT] < 0 and (found is None or self.sides[index] < self.sides[found]):
+        for index, row in enumerate(self._rows):
+            if row[CONSTANT] < 0 and (found is None or self._sides[index] < self._sides[found]):
                 found = index
         return found
 
-    def _first_rising(self, row, sign, columns):
+    def _first_rising(self, row, columns):
         found = None
         for column in columns:
-            if sign * row[column] > 0 and (found is None or self.heads[column] < self.heads[found]):
+            if row[column] > 0 and (found is None or self._heads[column] < self._heads[found]):
                 found = column
         return found
 
     def _tightest(self, column):
         found = None
-        for index, row in enumerate(self.rows):
+        for index, row in enumerate(self._rows):
             if row[column] < 0 and (found is None or self._is_tighter(index, found, column)):
                 found = index
         return found
 
     def _is_tighter(self, index, other, column):
-        one = self.rows[index]
-        two = self.rows[other]
+        one = self._rows[index]
+        two = self._rows[other]
         less = one[CONSTANT] * two[column] - two[CONSTANT] * one[column]
-        return less > 0 or less == 0 and self.sides[index] < self.sides[other]
+        return less > 0 or less == 0 and self._sides[index] < self._sides[other]
 
     def _exchange(self, index, column):
-        solved = _solved(self.rows[index], column)
-        self.rows = [_mixed(row, row[column], solved, column) if row[column] else row for row in self.rows]
-        self.rows[index] = solved
-        self._watched = [_mixed(row, row[column], solved, column) if row[column] else row for row in self._watched]
-        self.heads[column], self.sides[index] = self.sides[index], self.heads[column]
+        solved = _solved(self._rows.pop(index), column)
+        self._rows = _replaced(self._rows, column, solved)
+        self._rows.insert(index, solved)
+        if self._watched:
+            self._watched = _replaced(self._watched, column, solved)
+        self._heads[column], self._sides[index] = self._sides[index], self._heads[column]
+        self._places = None
 
 
-def fresh_table(sums):
-    """Returns the table of these sums, one or more, with all unknowns free."""
+def fresh_table(sums, columns):
+    """Returns the table of these sums, one or more, of the unknowns of some columns; all others are 0."""
     width = len(sums[0])
-    return Table(width, list(range(width)), list(range(width, width + len(sums))), list(sums))
+    behind = width + len(sums)
+    heads = [SCALE, CONSTANT, *columns]
+    rows = [[total[name] for name in heads] for total in sums]
+    return Table(width, behind, heads, list(range(width, behind)), rows)
 
 
 def _solved(row, column):
@@ -158,19 +183,38 @@ def _solved(row, column):
     return solved
 
 
-def _mixed(row, times, other, column):
-    """Returns a row and so many times what another one tells, which stands for what the row has in a column."""
-    own = 1
-    scale = other[SCALE]
+def _replaced(rows, column, solved):
+    """Returns the rows in which what a solved row tells stands for the unknown of the column."""
+    scale = solved[SCALE]
+    # what to add to a row for each time that it has the unknown, so that all of it comes out right at once
+    change = list(solved)
+    change[SCALE] = 0
+    change[column] -= scale
     if scale == 1:
-        mixed = [number + times * more for number, more in zip(row, other)]
-    else:
-        common = gcd(times, scale)
-        own = scale // common
-        times = times // common
-        mixed = [own * number + times * more for number, more in zip(row, other)]
-    mixed[column] = times * other[column]
-    mixed[SCALE] = own * row[SCALE]
+        return [_raised(row, row[column], change) if row[column] else row for row in rows]
+    return [_mixed(row, row[column], change, scale) if row[column] else row for row in rows]
+
+
+def _added(row, times, other):
+    """Returns a row and so many times what another one tells."""
+    own = row[SCALE]
+    change = list(other)
+    change[SCALE] = 0
+    return _raised(row, own * times, change) if other[SCALE] == 1 else _mixed(row, own * times, change, other[SCALE])
+
+
+def _raised(row, times, change):
+    if times == 1:
+        return [number + more for number, more in zip(row, change)]
+    return [number + times * more for number, more in zip(row, change)]
+
+
+def _mixed(row, times, change, scale):
+    """Returns a row and so many times a change by a scale, in whole numbers."""
+    common = gcd(times, scale)
+    own = scale // common
+    times = times // common
+    mixed = [own * number + times * more for number, more in zip(row, change)]
     return mixed if mixed[SCALE] < LARGE else _shortened(mixed)
 
 

@@ -8,7 +8,8 @@ class Threshold:
 
     It is open where a share of all members, which is not told, stands in the
     place of a. sums are those that it is met, by the conditions that are met
-    ahead of it, told as bits: they are kept, as they are asked for often.
+    ahead of it, told as bits, unmet the one that it is not met surely: they
+    are kept, as they are asked for often.
     """
 
     def __init__(self, heard, times, integers, is_open=False):
@@ -17,6 +18,7 @@ class Threshold:
         self.a, self.b, self.d = integers
         self.is_open = is_open
         self.sums = {}
+        self.unmet = None
 
     def asking(self, integers):
         """Returns the threshold that asks for other integers a, b, d of the same voices."""

@@ -10,5 +10,5 @@ def turning(protocol, name, index, wishes):
     """Returns the intervals of the shares, asked by a condition of a rule, at which some wish is broken."""
     check_index(protocol.rule(name), index)
     check_wishes(protocol, wishes)
-    sheet = Sheet(protocol, (name, index), True)
+    sheet = Sheet(protocol, apart=(name, index), is_open=True)
     return shares_in(sheet, sheet.share_sum(), broken_by(sheet, wishes))

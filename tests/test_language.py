@@ -19,7 +19,7 @@ BUILTINS = set(
     "StopIteration NotImplemented".split()
 )
 METHODS = set(
-    "append clear copy count endswith extend find get index insert isalnum isalpha isdigit islower isspace isupper "
+    "append clear copy count endswith extend find get index insert isalnum isalpha isascii isdigit islower isspace isupper "
     "items join keys ljust lower lstrip partition pop remove replace reverse rfind rjust rpartition rsplit rstrip "
     "setdefault split splitlines startswith strip update upper values zfill bit_length add discard __init__".split()
 )
@@ -244,7 +244,7 @@ class Language(unittest.TestCase):
                 if called in takers:
                     on_the_spot.update(node.args)
                 if called == "reversed":
-                    on_the_spot.update(part for part in node.args if getattr(part.func, "id", None) == "range")
+                    on_the_spot.update(part for part in node.args if getattr(getattr(part, "func", None), "id", None) == "range")
             for node in nodes(tree, ast.Call):
                 called = getattr(node.func, "id", None) or getattr(node.func, "attr", None)
                 if called in {"zip", "enumerate", "reversed", "range", "items", "keys", "values"}:

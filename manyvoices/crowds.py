@@ -1,0 +1,88 @@
+"""Crowds: how many members go which way, whether they can, and what they would have to do else."""
+
+from manyvoices.sheets import FAULTY, MORE
+from manyvoices.tables import CONSTANT
+from manyvoices.ways import STAYS
+
+
+class Crowd:
+    """Whole numbers for the unknowns of a sheet, as a dict from their columns, where they are above 0.
+
+    goers are the pairs (a way, how many go it); order holds conditions that
+    come to be met, one behind another, as they go as far as they can: if not
+    as far as their ways lead, all such conditions.
+    """
+
+    def __init__(self, sheet, amounts):
+        self._sheet = sheet
+        self._amounts = amounts
+        ways = sheet.ways_by_column
+        self.goers = [(ways[column], many) for column, many in amounts.items() if column in ways]
+        self._needed = 0
+        for way, _ in self.goers:
+            self._needed = self._needed | way.mark
+        self.order = []
+        self.met = 0
+        while self._lacks_conditions() and self._meets_one_more():
+            pass
+
+    def n_t_f(self):
+        """Returns the numbers n, t and f."""
+        going = sum([many for _, many in self.goers])
+        stopped = sum([many for way, many in self.goers if way.ending != STAYS])
+        f = self._amounts.get(FAULTY, 0) + stopped
+        return going if self._sheet.stopping else going + f, self._amounts.get(MORE, 0) + f, f
+
+    def multiplied(self, factor):
+        """Returns the crowd with so many times the numbers."""
+        return Crowd(self._sheet, {column: factor * many for column, many in self._amounts.items()})
+
+    def places(self):
+        """Returns the list of the places at which somebody stands."""
+        return [way.end for way, _ in self.goers if way.end is not None]
+
+    def few(self):
+        """Returns the numbers of the conditions that are not met surely."""
+        return [number for number in range(len(self._sheet.thresholds)) if self._is_unmet(number)]
+
+    def what_else(self, within, calm):
+        """Returns what else is needed, if the members cannot go their ways (or are not calm then), else nothing.
+
+        It is a list of pairs (sum, bits) such that one of the sums is met
+        wherever members can go their ways by no other conditions than those
+        of within (and are calm then); and these are by no others than those
+        of the bits.
+        """
+        sheet = self._sheet
+        if self._lacks_conditions():
+            # either no more conditions come to be met than here, or another one is the first of those that do
+            others = within - (within & self.met)
+            first = [(sheet.met_sum(number, self.met), within) for number in sheet.numbers if others >> number & 1]
+            return [(sheet.within_sum(self.met), within & self.met), *first]
+        if calm:
+            held = self.places()
+            for place, numbers in sheet.starts:
+                if place in held and not any([self._is_unmet(number) for number in numbers]):
+                    unmet = [(sheet.unmet_sum(number), within) for number in numbers]
+                    return [(sheet.empty_sum(place), within), *unmet]
+        return []
+
+    def _lacks_conditions(self):
+        """Tells whether some ways need more conditions than are met."""
+        return self._needed | self.met != self.met
+
+    def _meets_one_more(self):
+        """Tells whether a condition more is met by what is said while those are met that are, and adds it."""
+        for number in self._sheet.numbers:
+            if not self.met >> number & 1 and self._is_met(self._sheet.met_sum(number, self.met)):
+                self.order.append(number)
+                self.met += 1 << number
+                return True
+        return False
+
+    def _is_unmet(self, number):
+        return self._is_met(self._sheet.unmet_sum(number))
+
+    def _is_met(self, total):
+        """Tells whether a sum is at least 0."""
+        return total[CONSTANT] + sum([total[column] * many for column, many in self._amounts.items()]) >= 0

@@ -1,5 +1,7 @@
 """Crowds: how many members go which way, whether they can, and what they would have to do else."""
 
+from math import gcd
+
 from manyvoices.sheets import FAULTY, MORE
 from manyvoices.tables import CONSTANT
 from manyvoices.ways import STAYS
@@ -8,23 +10,29 @@ from manyvoices.ways import STAYS
 class Crowd:
     """Whole numbers for the unknowns of a sheet, as a dict from their columns, where they are above 0.
 
-    goers are the pairs (a way, how many go it); order holds conditions that
-    come to be met, one behind another, as they go as far as they can: if not
-    as far as their ways lead, all such conditions.
+    goers are the pairs (a way, how many go it); order holds the conditions
+    that their ways need and that come to be met, one behind another, as they
+    go as far as they can; where that is not as far as their ways lead, all
+    others stand behind these that come to be met, too. met are the same as
+    bits.
     """
 
     def __init__(self, sheet, amounts):
         self._sheet = sheet
         self._amounts = amounts
+        self._pairs = list(amounts.items())
         ways = sheet.ways_by_column
-        self.goers = [(ways[column], many) for column, many in amounts.items() if column in ways]
+        self.goers = [(ways[column], many) for column, many in self._pairs if column in ways]
+        self.order = []
+        self.met = 0
         self._needed = 0
         for way, _ in self.goers:
             self._needed = self._needed | way.mark
-        self.order = []
-        self.met = 0
-        while self._lacks_conditions() and self._meets_one_more():
-            pass
+        if self._needed:
+            self._go([number for number in sheet.numbers if self._needed >> number & 1])
+        if self._lacks_conditions():
+            # nobody here goes further by the others
+            self._go(sheet.numbers)
 
     def n_t_f(self):
         """Returns the numbers n, t and f."""
@@ -32,6 +40,14 @@ class Crowd:
         stopped = sum([many for way, many in self.goers if way.ending != STAYS])
         f = self._amounts.get(FAULTY, 0) + stopped
         return going if self._sheet.stopping else going + f, self._amounts.get(MORE, 0) + f, f
+
+    def least(self):
+        """Returns the crowd of the least whole numbers that are to one another as these are."""
+        common = 0
+        for many in self._amounts.values():
+            common = gcd(common, many)
+        # the constants are 0 or 1, so sums that hold for whole numbers hold for each whole part of them
+        return Crowd(self._sheet, {column: many // common for column, many in self._amounts.items()})
 
     def multiplied(self, factor):
         """Returns the crowd with so many times the numbers."""
@@ -71,18 +87,19 @@ class Crowd:
         """Tells whether some ways need more conditions than are met."""
         return self._needed | self.met != self.met
 
-    def _meets_one_more(self):
-        """Tells whether a condition more is met by what is said while those are met that are, and adds it."""
-        for number in self._sheet.numbers:
-            if not self.met >> number & 1 and self._is_met(self._sheet.met_sum(number, self.met)):
-                self.order.append(number)
-                self.met += 1 << number
-                return True
-        return False
+    def _go(self, numbers):
+        """Lets members go as far as they can by some conditions more."""
+        ahead = None
+        while ahead != self.met:
+            ahead = self.met
+            for number in numbers:
+                if not self.met >> number & 1 and self._is_met(self._sheet.met_sum(number, self.met)):
+                    self.order.append(number)
+                    self.met += 1 << number
 
     def _is_unmet(self, number):
         return self._is_met(self._sheet.unmet_sum(number))
 
     def _is_met(self, total):
         """Tells whether a sum is at least 0."""
-        return total[CONSTANT] + sum([total[column] * many for column, many in self._amounts.items()]) >= 0
+        return total[CONSTANT] + sum([total[column] * many for column, many in self._pairs]) >= 0

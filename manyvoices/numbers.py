@@ -2,10 +2,10 @@
 
 from manyvoices.counts import counted_crowd
 from manyvoices.errors import BadMany
-from manyvoices.forms import bound, members
+from manyvoices.forms import bound, faulty, members
 from manyvoices.goals import check_goal
 from manyvoices.kinds import is_integer
-from manyvoices.questions import Question
+from manyvoices.questions import question_of
 from manyvoices.sheets import Sheet
 from manyvoices.steps import run_of
 from manyvoices.tables import CONSTANT, SCALE
@@ -18,7 +18,7 @@ def numbers(protocol, goal, most, *, calm=False):
     check_goal(protocol, goal)
     _check_many(most)
     census = Census(protocol, goal, calm)
-    return [(n, t) for n in range(1, most + 1) for t in range(n + 1) if census.crowd(n, t) is not None]
+    return [(n, t) for n in range(1, most + 1) for t in census.bounds(n)]
 
 
 def run_at(protocol, goal, n, t, *, calm=False):
@@ -26,7 +26,8 @@ def run_at(protocol, goal, n, t, *, calm=False):
     check_goal(protocol, goal)
     _check_many(n)
     _check_many(t)
-    crowd = Census(protocol, goal, calm).crowd(n, t)
+    census = Census(protocol, goal, calm)
+    crowd = census.crowd(census.of(n), n, t)
     return None if crowd is None else run_of(protocol, crowd)
 
 
@@ -37,34 +38,52 @@ class Census:
         self._sheet = Sheet(protocol)
         self._sums = self._sheet.comparison_sums(goal)
         self._calm = calm
-        self._question = Question(self._sheet, self._sums, calm)
-        self._forms = [self._sheet.form_sum(form) for form in (members(), bound())]
+        self._question = question_of(self._sheet, self._sums, calm)
 
-    def crowd(self, n, t):
-        """Returns a crowd that comes to such a standing with just this n and t, or None if there is none."""
-        fixed = [_at_least(form, many, sign) for form, many in zip(self._forms, (n, t)) for sign in (1, -1)]
-        crowd = self._question.crowd(fixed)
+    def bounds(self, n):
+        """Returns the list of all t with which such a standing can come to n members."""
+        question = self.of(n)
+        return [t for t in range(n + 1) if self.crowd(question, n, t) is not None]
+
+    def of(self, n):
+        """Returns the question for n members."""
+        return self._also(self._question, members(), n)
+
+    def crowd(self, question, n, t):
+        """Returns a crowd that comes to such a standing with this t, by the question for n, or None if none does."""
+        question = self._also(question, bound(), t)
+        crowd = question.crowd()
         if crowd is None:
             return None
-        own, _, _ = crowd.n_t_f()
-        # with a crowd each multiple of it is one, too
-        if n % own == 0:
-            return crowd.multiplied(n // own)
+        return _of_members(crowd, n) or self._counted(question, n, t)
+
+    def _counted(self, question, n, t):
+        """Returns what crowd() does, where members would have to be parted by the first crowd that comes so."""
         for f in range(min(t, n - 1) + 1):
-            crowd = counted_crowd(self._sheet, self._sums, self._calm, (n, t, f))
+            crowd = self._also(question, faulty(), f).crowd()
             if crowd is not None:
-                return crowd
+                found = _of_members(crowd, n) or counted_crowd(self._sheet, self._sums, self._calm, (n, t, f))
+                if found is not None:
+                    return found
         return None
+
+    def _also(self, question, form, many):
+        """Returns the question for standings in which a form is just so much, too."""
+        least = self._sheet.form_sum(form)
+        least[CONSTANT] = -many
+        most = [-number for number in least]
+        most[SCALE] = 1
+        return question.also([least, most])
+
+
+def _of_members(crowd, n):
+    """Returns the crowd of n members that are to one another as those of a crowd, or None if they would be parted."""
+    crowd = crowd.least()
+    own, _, _ = crowd.n_t_f()
+    # with a crowd each multiple of it is one, too
+    return crowd.multiplied(n // own) if n % own == 0 else None
 
 
 def _check_many(thing):
     if not is_integer(thing) or not 0 <= thing <= MOST:
         raise BadMany(thing)
-
-
-def _at_least(form, many, sign):
-    """Returns the sum that a form, told by its sum, is at least so much (sign 1) or at most (sign -1)."""
-    total = [sign * number for number in form]
-    total[SCALE] = 1
-    total[CONSTANT] = -sign * many
-    return total

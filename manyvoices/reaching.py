@@ -2,7 +2,7 @@
 
 from manyvoices.goals import check_goal
 from manyvoices.papers import barring_triples, is_barring, longer_orders
-from manyvoices.questions import Question
+from manyvoices.questions import question_of
 from manyvoices.sheets import Sheet
 from manyvoices.steps import run_of
 
@@ -11,8 +11,8 @@ def reach(protocol, goal, *, calm=False):
     """Returns a run whose standing meets a goal (and is calm), or None if there is none."""
     check_goal(protocol, goal)
     sheet = Sheet(protocol)
-    crowd = Question(sheet, sheet.comparison_sums(goal), calm).crowd()
-    return None if crowd is None else run_of(protocol, crowd)
+    crowd = question_of(sheet, sheet.comparison_sums(goal), calm).crowd()
+    return None if crowd is None else run_of(protocol, crowd.least())
 
 
 def paper(protocol, goal, *, calm=False):
@@ -49,12 +49,74 @@ def together(protocol, *, calm=False):
 
 def sets_together(protocol, sheet, calm):
     """Returns what together tells, by the sheet of the protocol."""
-    gathering = Gathering(protocol, sheet, calm)
-    found = gathering.at_all_places()
-    if found is None:
-        found = gathering.greatest_rows()
     places = protocol.places()
-    return [list(row) for row in sorted(found, key=lambda row: [places.index(place) for place in row])]
+    rows = sorted([numbers_of(row) for row in Gathering(places, sheet, calm).greatest_rows()])
+    return [[places[number] for number in row] for row in rows]
+
+
+class Gathering:
+    """Asks who can stand at once, with rows of places told as bits, by the numbers of the places."""
+
+    def __init__(self, places, sheet, calm):
+        # nobody rests where a rule asks for nothing
+        left = [place for place, numbers in sheet.starts if calm and not numbers]
+        ends = [way.end for way in sheet.ways]
+        self._bits = {place: 1 << number for number, place in enumerate(places)}
+        self._standing = {
+            self._bits[place]: sheet.standing_sum(place) for place in places if place in ends and place not in left
+        }
+        self._question = question_of(sheet, [], calm)
+        # rows at which members can stand at once, and rows at which they cannot
+        self._held = []
+        self._barred = []
+
+    def greatest_rows(self):
+        """Returns the list of the greatest rows of places at which members can stand at once."""
+        reached = list(self._standing)
+        if self._row_with(sum(reached)) is None:
+            reached = [bit for bit in reached if self._row_with(bit) is not None]
+        found = []
+        # rows that some greatest row may hold, and all that have been among them
+        left = [0] if reached else []
+        seen = {0: True}
+        while left:
+            asked = left.pop()
+            row = self._greatest_with(asked, reached)
+            if row is not None:
+                found.extend([] if row in found else [row])
+                # another greatest row holds some place that this one lacks
+                for bit in reached:
+                    if not row & bit and asked | bit not in seen:
+                        seen[asked | bit] = True
+                        left.append(asked | bit)
+        return found
+
+    def _greatest_with(self, asked, reached):
+        """Returns a greatest row that holds what is asked for, or None if members cannot stand there at once."""
+        row = self._row_with(sum(reached)) or self._row_with(asked)
+        for bit in reached:
+            if row is not None and not row & bit:
+                row = self._row_with(row | bit) or row
+        return row
+
+    def _row_with(self, asked):
+        """Returns a row at which members stand while they stand at one that is asked for, or None."""
+        for row in self._held:
+            if row & asked == asked:
+                return row
+        for row in self._barred:
+            if row & asked == row:
+                return None
+        standing = [total for bit, total in self._standing.items() if asked & bit]
+        crowd = self._question.also(standing).crowd()
+        if crowd is None:
+            self._barred.append(asked)
+            return None
+        row = 0
+        for place in crowd.places():
+            row = row | self._bits[place]
+        self._held.append(row)
+        return row
 
 
 def is_part(places, greater):
@@ -62,72 +124,6 @@ def is_part(places, greater):
     return all([place in greater for place in places])
 
 
-class Gathering:
-    """Asks who can stand at once, with rows of places in the order of the protocol."""
-
-    def __init__(self, protocol, sheet, calm):
-        # nobody rests where a rule asks for nothing
-        left = [place for place, numbers in sheet.starts if calm and not numbers]
-        ends = [way.end for way in sheet.ways]
-        self._places = [place for place in protocol.places() if place in ends and place not in left]
-        self._sheet = sheet
-        self._question = Question(sheet, [], calm)
-
-    def at_all_places(self):
-        """Returns the list of the row of all places at which members can stand, or None if not at once.
-
-        It is empty if members can stand nowhere.
-        """
-        if self._row_with(self._places) is None:
-            reached = []
-            for place in self._places:
-                row = None if place in reached else self._row_with([place])
-                reached.extend(row or [])
-            self._places = [place for place in self._places if place in reached]
-        if not self._places:
-            return []
-        row = self._row_with(self._places)
-        return None if row is None else [row]
-
-    def greatest_rows(self):
-        """Returns the list of the greatest rows of places at which members can stand at once."""
-        found = []
-        barred = []
-        # rows that some greatest row may hold, and all that have been among them
-        left = [()]
-        seen = {(): True}
-        while left:
-            asked = left.pop()
-            holding = [row for row in found if is_part(asked, row)]
-            if not holding and not any([is_part(row, asked) for row in barred]):
-                row = self._row_with(asked)
-                if row is None:
-                    barred.append(asked)
-                else:
-                    holding = [self._greatest_from(row)]
-                    found.extend(holding)
-            # another greatest row holds some place that this one lacks
-            for longer in self._longer(asked, holding[0]) if holding else []:
-                if longer not in seen:
-                    seen[longer] = True
-                    left.append(longer)
-        return found
-
-    def _greatest_from(self, row):
-        """Returns a greatest row that holds a row of places at which members can stand at once."""
-        for place in self._places:
-            if place not in row:
-                row = self._row_with([*row, place]) or row
-        return row
-
-    def _longer(self, asked, row):
-        """Returns the rows of those that are asked for and one place more that a row lacks."""
-        return [self._in_order([*asked, place]) for place in self._places if place not in row]
-
-    def _row_with(self, asked):
-        """Returns a row of the places at which members stand while they stand at some places, or None."""
-        crowd = self._question.crowd([self._sheet.standing_sum(place) for place in asked])
-        return None if crowd is None else self._in_order(crowd.places())
-
-    def _in_order(self, places):
-        return tuple([place for place in self._places if place in places])
+def numbers_of(bits):
+    """Returns the ascending list of the numbers whose bits are set."""
+    return [number for number in range(bits.bit_length()) if bits >> number & 1]

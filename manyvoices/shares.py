@@ -4,7 +4,7 @@ from manyvoices.errors import BadForm
 from manyvoices.forms import Form, bound, members
 from manyvoices.goals import CALM, check_goal, check_wishes
 from manyvoices.intervals import joined, lowest_terms
-from manyvoices.questions import Question
+from manyvoices.questions import question_of
 from manyvoices.sheets import Sheet
 from manyvoices.tables import CONSTANT, SCALE
 
@@ -42,18 +42,19 @@ def shares_in(sheet, shared, asked):
     # each gap is told by the sums that a share is above its low end, if any, and below its high end
     gaps = [([], [])]
     for sums, calm in asked:
-        question = Question(sheet, sums, calm)
+        question = question_of(sheet, sums, calm)
         left = gaps
         gaps = []
         # each turn finds all shares of those that go by one order, and calm by one choice of conditions, in a gap:
         # as what it leaves holds none of these any more, the turns come to an end
         while left:
             above, below = left.pop()
-            crowd = question.crowd([*above, *below])
+            within = question.also([*above, *below])
+            crowd = within.crowd()
             if crowd is None:
                 gaps.append((above, below))
             else:
-                low, is_low, high, is_high = _interval(question.case(crowd, [*above, *below]), watched)
+                low, is_low, high, is_high = _interval(within.case(crowd), watched)
                 found.append((low, is_low, high, is_high))
                 left.append((above, [_beyond(watched, low, is_low, -1)]))
                 left.append(([_beyond(watched, high, is_high, 1)], below))

@@ -50,6 +50,7 @@ class Sheet:
         self._counting = {}
         self._sayers = {}
         self._left = {}
+        self._calm = None
         self.promises = self.comparison_sums(protocol.promise() if promise is None else promise)
         self.base = self._base_sums()
 
@@ -84,7 +85,8 @@ class Sheet:
     def met_sum(self, number, met):
         """Returns the sum that a condition is met as it may be, by what is said while some are met, told as bits."""
         threshold = self.thresholds[number]
-        if met not in threshold.sums:
+        total = threshold.sums.get(met)
+        if total is None:
             times = threshold.times
             total = self._plain(-threshold.a, -threshold.b, times if self._lying else 0, threshold.d)
             for sort in threshold.heard:
@@ -94,7 +96,7 @@ class Sheet:
             if threshold.is_open:
                 total[-1] = -1
             threshold.sums[met] = total
-        return threshold.sums[met]
+        return total
 
     def unmet_sum(self, number):
         """Returns the sum that a condition is not met surely."""
@@ -134,6 +136,14 @@ class Sheet:
     def empty_sum(self, place):
         """Returns the sum that nobody stands at a place."""
         return self._none_of(self._columns_of(("at", place)))
+
+    def calm_columns(self):
+        """Returns the columns of the unknowns, but not of ways that end where a rule asks for nothing."""
+        if self._calm is None:
+            left = [start for start, numbers in self.starts if not numbers]
+            ways = [column for column, way in self._numbered if way.end not in left]
+            self._calm = [MORE, FAULTY, *ways, *self._share]
+        return self._calm
 
     def open_columns(self, met, barred):
         """Returns the columns of the unknowns, but not of ways that need other conditions, or end at barred places."""

@@ -1,6 +1,6 @@
 """Tables of sums of unknowns that are 0 or more, in whole numbers alone."""
 
-from math import gcd
+from math import gcd, lcm
 
 SCALE = 0
 CONSTANT = 1
@@ -17,19 +17,20 @@ class Table:
     Each sum is an unknown, too: it may change places with a free one. The
     name of an unknown is its place in the sums that are passed, from FIRST
     on, each of so many numbers as width tells; the names of the sums follow,
-    up to behind. heads are the names of the free unknowns by their columns,
-    sides those of the others by their rows.
+    up to behind. columns are those of the free unknowns, heads their names by
+    column, sides those of the others by their rows.
     """
 
-    def __init__(self, width, behind, heads, sides, rows):
-        self.columns = list(range(FIRST, len(heads)))
+    def __init__(self, width, behind, columns, heads, sides, rows):
+        self.columns = columns
         self._width = width
         self._behind = behind
         self._heads = heads
         self._sides = sides
         self._rows = rows
         self._watched = []
-        # where the free unknowns stand in sums, and the pairs (name, row) of the others; None if not looked up
+        # what _told() looks up once behind an exchange: where the free unknowns stand in sums, and for each of the
+        # others its name, the scale of its row, and the changes by it
         self._places = None
         self._exchanged = []
 
@@ -41,7 +42,7 @@ class Table:
                 return None
         behind = self._behind + len(sums)
         sides = self._sides + list(range(self._behind, behind))
-        return Table(self._width, behind, list(self._heads), sides, self._rows + told)
+        return Table(self._width, behind, self.columns, list(self._heads), sides, self._rows + told)
 
     def trim(self):
         """Leaves out sums that cannot come below 0, whatever the unknowns are."""
@@ -91,13 +92,15 @@ class Table:
         row = self._watched[place]
         return row[CONSTANT], row[SCALE]
 
-    def amounts(self):
-        """Returns how much the unknowns are that are above 0, as triples (name, above, below)."""
-        told = []
+    def whole_amounts(self):
+        """Returns the dict from the unknowns above 0 to how much they are, so many times that all are whole."""
+        common = 1
+        amounts = {}
         for name, row in zip(self._sides, self._rows):
             if name < self._width and row[CONSTANT] > 0:
-                told.append((name, row[CONSTANT], row[SCALE]))
-        return told
+                amounts[name] = (row[CONSTANT], row[SCALE])
+                common = lcm(common, row[SCALE])
+        return {name: above * (common // below) for name, (above, below) in amounts.items()}
 
     def reasons(self, index):
         """Returns how often to add up which sums to see that one of them is below 0, whatever the unknowns are.
@@ -113,15 +116,19 @@ class Table:
         """Returns the rows that tell sums by the free unknowns."""
         if self._places is None:
             # a sum has none of what stands behind its end
-            self._places = [min(name, self._width) for name in self._heads]
-            self._exchanged = [pair for pair in zip(self._sides, self._rows) if pair[0] < self._width]
+            behind = self._width
+            self._places = [name if name < behind else behind for name in self._heads]
+            self._exchanged = []
+            for name, row in zip(self._sides, self._rows):
+                if name < self._width:
+                    self._exchanged.append((name, row[SCALE], _changes(row)))
         told = []
         for total in sums:
             longer = [*total, 0]
             row = [longer[place] for place in self._places]
-            for name, other in self._exchanged:
+            for name, scale, changes in self._exchanged:
                 if total[name] != 0:
-                    row = _added(row, total[name], other)
+                    row = _mixed(row, row[SCALE] * total[name], changes, scale)
             told.append(row)
         return told
 
@@ -144,16 +151,15 @@ class Table:
 
     def _tightest(self, column):
         found = None
+        above = below = 0
         for index, row in enumerate(self._rows):
-            if row[column] < 0 and (found is None or self._is_tighter(index, found, column)):
-                found = index
+            fall = -row[column]
+            if fall > 0:
+                # by how much less the unknown of the column can grow because of this sum than because of the other one
+                less = 1 if found is None else above * fall - row[CONSTANT] * below
+                if less > 0 or less == 0 and self._sides[index] < self._sides[found]:
+                    found, above, below = index, row[CONSTANT], fall
         return found
-
-    def _is_tighter(self, index, other, column):
-        one = self._rows[index]
-        two = self._rows[other]
-        less = one[CONSTANT] * two[column] - two[CONSTANT] * one[column]
-        return less > 0 or less == 0 and self._sides[index] < self._sides[other]
 
     def _exchange(self, index, column):
         solved = _solved(self._rows.pop(index), column)
@@ -171,7 +177,7 @@ def fresh_table(sums, columns):
     behind = width + len(sums)
     heads = [SCALE, CONSTANT, *columns]
     rows = [[total[name] for name in heads] for total in sums]
-    return Table(width, behind, heads, list(range(width, behind)), rows)
+    return Table(width, behind, list(range(FIRST, len(heads))), heads, list(range(width, behind)), rows)
 
 
 def _solved(row, column):
@@ -185,36 +191,34 @@ def _solved(row, column):
 
 def _replaced(rows, column, solved):
     """Returns the rows in which what a solved row tells stands for the unknown of the column."""
+    # so many times as a row has the unknown, that is added which turns it into what is told
+    changed = list(solved)
+    changed[column] -= solved[SCALE]
+    changes = _changes(changed)
     scale = solved[SCALE]
-    # what to add to a row for each time that it has the unknown, so that all of it comes out right at once
-    change = list(solved)
-    change[SCALE] = 0
-    change[column] -= scale
+    replaced = []
+    for row in rows:
+        times = row[column]
+        replaced.append(_mixed(row, times, changes, scale) if times else row)
+    return replaced
+
+
+def _changes(row):
+    """Returns the pairs (column, number) of what a row has behind its scale; most rows have little."""
+    return [(column, number) for column, number in enumerate(row) if number != 0 and column != SCALE]
+
+
+def _mixed(row, times, changes, scale):
+    """Returns a row and so many times the changes by a scale, in whole numbers."""
     if scale == 1:
-        return [_raised(row, row[column], change) if row[column] else row for row in rows]
-    return [_mixed(row, row[column], change, scale) if row[column] else row for row in rows]
-
-
-def _added(row, times, other):
-    """Returns a row and so many times what another one tells."""
-    own = row[SCALE]
-    change = list(other)
-    change[SCALE] = 0
-    return _raised(row, own * times, change) if other[SCALE] == 1 else _mixed(row, own * times, change, other[SCALE])
-
-
-def _raised(row, times, change):
-    if times == 1:
-        return [number + more for number, more in zip(row, change)]
-    return [number + times * more for number, more in zip(row, change)]
-
-
-def _mixed(row, times, change, scale):
-    """Returns a row and so many times a change by a scale, in whole numbers."""
-    common = gcd(times, scale)
-    own = scale // common
-    times = times // common
-    mixed = [own * number + times * more for number, more in zip(row, change)]
+        mixed = list(row)
+    else:
+        common = gcd(times, scale)
+        own = scale // common
+        times = times // common
+        mixed = [own * number for number in row]
+    for column, number in changes:
+        mixed[column] += times * number
     return mixed if mixed[SCALE] < LARGE else _shortened(mixed)
 
 

@@ -4,7 +4,7 @@ from manyvoices.changes import RULE, all_left_out
 from manyvoices.errors import BadBox, BadIndex, UnlikePlaces
 from manyvoices.goals import CALM, check_wishes
 from manyvoices.kinds import is_integer, is_row
-from manyvoices.questions import Question
+from manyvoices.questions import question_of
 from manyvoices.reaching import is_part, sets_together
 from manyvoices.sheets import Sheet
 from manyvoices.thresholds import threshold_of
@@ -28,7 +28,7 @@ def spare(protocol, wishes):
     found = []
     for left_out, rules, promise in all_left_out(protocol):
         asked = held_calm if left_out[0] == RULE else held
-        if not asked or not _broken_ones(_questions(Sheet(protocol, rules=rules, promise=promise), asked)):
+        if not asked or _all_hold(_questions(Sheet(protocol, rules=rules, promise=promise), asked)):
             found.append(left_out)
     return found
 
@@ -91,7 +91,7 @@ def mending_thresholds(protocol, wishes):
             a, b, d = asked.a, asked.b, asked.d
             for changed in [(a, b - 1, 0), (a, b - 1, 1), (a, b, 1 - d), (a, b + 1, 0), (a, b + 1, 1)]:
                 sheet.exchange(changed)
-                if not any([question.crowd() is not None for question in questions]):
+                if _all_hold(questions):
                     found.append((rule.name, index, changed))
     return found
 
@@ -104,12 +104,20 @@ def check_index(rule, thing):
 
 def _questions(sheet, wishes):
     """Returns the questions of what breaks wishes, one for each."""
-    return [Question(sheet, sheet.comparison_sums(goal), word == CALM) for word, goal in wishes]
+    return [question_of(sheet, sheet.comparison_sums(goal), word == CALM) for word, goal in wishes]
 
 
 def _broken_ones(questions):
     """Returns the indexes of the questions that some standing answers."""
     return [index for index, question in enumerate(questions) if question.crowd() is not None]
+
+
+def _all_hold(questions):
+    """Tells whether no standing answers any of the questions."""
+    for question in questions:
+        if question.crowd() is not None:
+            return False
+    return True
 
 
 def _is_box(thing):

@@ -8,36 +8,39 @@ from manyvoices.ways import STAYS
 
 
 class Crowd:
-    """Whole numbers for the unknowns of a sheet, as a dict from their columns, where they are above 0.
+    """How many members go which way: whole numbers for the unknowns of a sheet, by their columns, those above 0.
 
-    goers are the pairs (a way, how many go it); order holds the conditions
-    that their ways need and that come to be met, one behind another, as they
-    go as far as they can; where that is not as far as their ways lead, all
-    others stand behind these that come to be met, too. met are the same as
-    bits.
+    order holds the conditions that their ways need and that come to be met,
+    one behind another, as they go as far as they can. Where this is not as
+    far as their ways lead, the others that come to be met stand behind these.
+    met are the same as bits.
     """
 
     def __init__(self, sheet, amounts):
         self._sheet = sheet
         self._amounts = amounts
         self._pairs = list(amounts.items())
-        ways = sheet.ways_by_column
-        self.goers = [(ways[column], many) for column, many in self._pairs if column in ways]
         self.order = []
         self.met = 0
         self._needed = 0
-        for way, _ in self.goers:
-            self._needed = self._needed | way.mark
+        for column, _ in self._pairs:
+            self._needed = self._needed | sheet.marks[column]
         if self._needed:
             self._go([number for number in sheet.numbers if self._needed >> number & 1])
         if self._lacks_conditions():
             # nobody here goes further by the others
             self._go(sheet.numbers)
 
+    def goers(self):
+        """Returns the list of the pairs (a way, how many go it)."""
+        pairs = [(self._sheet.way(column), many) for column, many in self._pairs]
+        return [(way, many) for way, many in pairs if way is not None]
+
     def n_t_f(self):
         """Returns the numbers n, t and f."""
-        going = sum([many for _, many in self.goers])
-        stopped = sum([many for way, many in self.goers if way.ending != STAYS])
+        goers = self.goers()
+        going = sum([many for _, many in goers])
+        stopped = sum([many for way, many in goers if way.ending != STAYS])
         f = self._amounts.get(FAULTY, 0) + stopped
         return going if self._sheet.stopping else going + f, self._amounts.get(MORE, 0) + f, f
 
@@ -47,15 +50,16 @@ class Crowd:
         for many in self._amounts.values():
             common = gcd(common, many)
         # the constants are 0 or 1, so sums that hold for whole numbers hold for each whole part of them
-        return Crowd(self._sheet, {column: many // common for column, many in self._amounts.items()})
+        return Crowd(self._sheet, {column: many // common for column, many in self._pairs})
 
     def multiplied(self, factor):
         """Returns the crowd with so many times the numbers."""
-        return Crowd(self._sheet, {column: factor * many for column, many in self._amounts.items()})
+        return Crowd(self._sheet, {column: factor * many for column, many in self._pairs})
 
     def places(self):
         """Returns the list of the places at which somebody stands."""
-        return [way.end for way, _ in self.goers if way.end is not None]
+        ends = self._sheet.ends
+        return [ends[column] for column, _ in self._pairs if ends[column] is not None]
 
     def few(self):
         """Returns the numbers of the conditions that are not met surely."""
@@ -102,4 +106,7 @@ class Crowd:
 
     def _is_met(self, total):
         """Tells whether a sum is at least 0."""
-        return total[CONSTANT] + sum([total[column] * many for column, many in self._pairs]) >= 0
+        worth = total[CONSTANT]
+        for column, many in self._pairs:
+            worth += total[column] * many
+        return worth >= 0

@@ -42,7 +42,9 @@ class Sheet:
         self.ways = ways_of(protocol.begins(), rules, [bits_of(numbers) for numbers in needs], self.stopping)
         self._share = [FIRST_WAY + len(self.ways)] if is_open else []
         self._numbered = list(enumerate(self.ways, FIRST_WAY))
-        self.ways_by_column = {column: way for column, way in self._numbered}
+        # what the ways need, as bits, and where those stand in the end that go them, by their columns
+        self.marks = [0] * FIRST_WAY + [way.mark for way in self.ways] + [0]
+        self.ends = [None] * FIRST_WAY + [way.end for way in self.ways] + [None]
         self.columns = [MORE, FAULTY, *[column for column, _ in self._numbered], *self._share]
         self._stopped = [column for column, way in self._numbered if way.ending != STAYS]
         # what is looked up once it is asked for: the columns that count for a term, those that say a sort, and
@@ -126,6 +128,11 @@ class Sheet:
             idle[FAULTY] = 1
             sums.append(idle)
         return sums
+
+    def way(self, column):
+        """Returns the way of a column, or None if it is that of another unknown."""
+        place = column - FIRST_WAY
+        return self.ways[place] if 0 <= place < len(self.ways) else None
 
     def within_sum(self, met):
         """Returns the sum that nobody goes a way that needs other conditions than some, told as bits."""

@@ -6,8 +6,9 @@ from manyvoices.ways import CUT, STOPS, rules_in_turn
 def run_of(protocol, crowd):
     """Returns the run in which a crowd goes its ways, stage by stage."""
     n, t, f = crowd.n_t_f()
-    begun = [(place, _begun_at(crowd.goers, place)) for place in protocol.begins()]
-    return n, t, f, begun, _steps(protocol, crowd.order, crowd.goers)
+    goers = crowd.goers()
+    begun = [(place, _begun_at(goers, place)) for place in protocol.begins()]
+    return n, t, f, begun, _steps(protocol, crowd.order, goers)
 
 
 def _begun_at(goers, place):

@@ -2,54 +2,64 @@
 
 import unittest
 
+from manyvoices.crowds import Crowd
 from manyvoices.forms import above, at, at_least, begun, bound, faulty, members
+from manyvoices.numbers import numbers
 from manyvoices.reaching import together
 from manyvoices.shares import borne, shares
 from manyvoices.tables import Table
+from manyvoices.turning import turning
 from manyvoices.wishes import broken, by_faults, parting, spare, thresholds
 from tests.examples import echo
 
-WISHES = [
-    ("never", [at_least(0, begun("news")), at_least(at("done"), 1)]),
-    ("calm", [above(members() - faulty(), at("done")), at_least(begun("news"), members() - faulty())]),
-]
+NEWS = [at_least(0, begun("news")), at_least(at("done"), 1)]
 TORN = [at_least(at("done"), 1), above(members() - faulty(), at("done"))]
-
-
-def exchanges(ask):
-    """How often unknowns of tables change places while something is asked, and the answer."""
-    many = [0]
-    exchange = Table._exchange
-
-    def counted(table, index, column):
-        many[0] += 1
-        exchange(table, index, column)
-
-    Table._exchange = counted
-    try:
-        answer = ask()
-    finally:
-        Table._exchange = exchange
-    return many[0], answer
+WISHES = [("never", NEWS), ("calm", TORN)]
 
 
 class Effort(unittest.TestCase):
+    def worked(self, ask):
+        """How often unknowns of tables change places, how many crowds are looked at, and the answer."""
+        many = [0, 0]
+        exchange, init = Table._exchange, Crowd.__init__
+
+        def exchanged(table, index, column):
+            many[0] += 1
+            exchange(table, index, column)
+
+        def made(crowd, sheet, amounts):
+            many[1] += 1
+            init(crowd, sheet, amounts)
+
+        Table._exchange, Crowd.__init__ = exchanged, made
+        try:
+            answer = ask()
+        finally:
+            Table._exchange, Crowd.__init__ = exchange, init
+        return many, answer
+
     def test_questions_on_the_echo(self):
+        form = at("done") + bound()
         questions = [
-            (110, lambda: thresholds(echo(), "join", 0, [0, 1, 0, 1], WISHES)),
-            (90, lambda: parting(echo(), echo())),
-            (50, lambda: by_faults(echo(), WISHES)),
-            (35, lambda: spare(echo(), WISHES)),
-            (26, lambda: together(echo(), calm=True)),
-            (60, lambda: shares(echo(), TORN, bound(), calm=True)),
-            (20, lambda: borne(echo(), WISHES)),
-            (20, lambda: broken(echo(), WISHES)),
+            (34, 18, lambda: numbers(echo(), TORN, 2, calm=True)),
+            (24, 5, lambda: shares(echo(), TORN, form)),
+            (64, 18, lambda: shares(echo(), TORN, form, calm=True)),
+            (56, 21, lambda: borne(echo(), WISHES)),
+            (12, 8, lambda: broken(echo(), WISHES)),
+            (16, 12, lambda: spare(echo(), WISHES)),
+            (30, 30, lambda: thresholds(echo(), "join", 0, [0, 0, 0, 1], WISHES)),
+            (34, 21, lambda: by_faults(echo(), WISHES)),
+            (0, 0, lambda: parting(echo(), echo())),
+            (96, 46, lambda: parting(echo(), echo(faults="silent"))),
+            (10, 5, lambda: together(echo(), calm=True)),
+            (34, 12, lambda: turning(echo(), "end", 0, WISHES)),
         ]
-        for most, ask in questions:
-            many, answer = exchanges(ask)
-            self.assertLessEqual(many, most)
+        for most_exchanges, most_crowds, ask in questions:
+            (exchanges, crowds), answer = self.worked(ask)
+            self.assertLessEqual(exchanges, most_exchanges)
+            self.assertLessEqual(crowds, most_crowds)
             # what is asked again is worked out again, and told alike
-            self.assertEqual(exchanges(ask), (many, answer))
+            self.assertEqual(self.worked(ask), ([exchanges, crowds], answer))
 
 
 if __name__ == "__main__":

@@ -3,7 +3,9 @@
 import inspect
 import random
 import unittest
+import unittest.mock
 
+from manyvoices import counts
 from manyvoices import numbers as numbers_file
 from manyvoices.errors import BadGoal, BadMany
 from manyvoices.forms import above, at, at_least, begun, bound, faulty, heard, members, said
@@ -112,6 +114,39 @@ class Numbers(unittest.TestCase):
                     self.assertEqual([pair for pair in self.look(protocol, goal, calm) if pair[0] <= most], pairs)
                     some += 0 < len(pairs) < len(small.pairs([], False))
         self.assertGreater(some, 20)
+
+    def test_members_are_not_parted(self):
+        # where numbers could be had with parts of members, they are counted one by one
+        counted = {"found": 0, "none": 0}
+
+        def count(*told):
+            crowd = counts.counted_crowd(*told)
+            counted["none" if crowd is None else "found"] += 1
+            return crowd
+
+        source = random.Random(33)
+        with unittest.mock.patch.object(numbers_file, "counted_crowd", count):
+            for number in range(40):
+                if number % 2:
+                    protocol = made.vote(source)
+                else:
+                    rules = source.randint(2, 5)
+                    protocol = made.protocol(source, places=source.randint(2, 4), rules=rules, conditions=2)
+                small = search.Small(protocol, 3)
+                for _ in range(4):
+                    terms = [at(place) for place in protocol.places()] + [said(sort) for sort in protocol.sorts()]
+                    one, other = source.choice(terms), source.choice([members(), bound(), faulty(), *terms])
+                    form = source.choice([2, 3]) * one - other
+                    goal = [at_least(form, 0), at_least(0, form), *made.goal(source, protocol, 1)]
+                    for calm in (False, True):
+                        pairs = small.pairs(goal, calm)
+                        self.assertEqual(numbers(protocol, goal, 3, calm=calm), pairs)
+                        for n, t in pairs:
+                            run = run_at(protocol, goal, n, t, calm=calm)
+                            self.assertTrue(is_run(protocol, run) and run[:2] == (n, t))
+                            self.assertTrue(meets(protocol, run, goal) and (is_calm(protocol, run) or not calm))
+        self.assertGreater(counted["found"], 10)
+        self.assertGreater(counted["none"], 10)
 
     def test_ballot(self):
         for faults in made.FAULTS:

@@ -2,6 +2,7 @@
 
 import copy
 import inspect
+import itertools
 import random
 import unittest
 
@@ -338,6 +339,14 @@ class MadeUp(Answers):
         return goal
 
 
+def other_echo(a, b, faults):
+    """The echo in which members join at more than a t, and end at n - b t."""
+    tell, _, _ = echo().rules()
+    join = Rule("join", "old", "sent", [above(heard("echo"), a * bound())], ["echo"])
+    end = Rule("end", "sent", "done", [at_least(heard("echo"), members() - b * bound())])
+    return echo().but(rules=[tell, join, end], faults=faults)
+
+
 class Together(unittest.TestCase):
     def test_made_up(self):
         source = random.Random(21)
@@ -384,6 +393,28 @@ class Together(unittest.TestCase):
             several += len(told) > 2
             self.check_lists(protocol, told, True)
         self.assertGreater(several, 1)
+
+    def test_no_list_is_left_out(self):
+        source = random.Random(24)
+        several = 0
+        for number in range(60):
+            if number < 36:
+                a, b = number // 3 % 3, number // 9
+                protocol = other_echo(a, b, made.FAULTS[number % 3])
+            else:
+                protocol = made.vote(source) if number % 2 else protocol_of(source, True, (3, 5))
+            for calm in (False, True):
+                held = []
+                for many in range(len(protocol.places()), 0, -1):
+                    for some in itertools.combinations(protocol.places(), many):
+                        if not any(set(some) <= set(more) for more in held):
+                            goal = [at_least(at(place), 1) for place in some]
+                            if paper(protocol, goal, calm=calm) is None:
+                                held.append(some)
+                told = together(protocol, calm=calm)
+                self.assertEqual(sorted(told), sorted(map(list, held)))
+                several += len(told) > 1
+        self.assertGreater(several, 30)
 
     def test_order_of_the_lists(self):
         # n is either at most 2 t, and all go to the last place, or above it, and they go to the middle one

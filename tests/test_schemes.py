@@ -1,5 +1,6 @@
 """Points 3, 4, 10, 11 and 35: protocols."""
 
+import random
 import unittest
 
 from manyvoices.errors import BadBegins, BadFaults, BadPlaces, BadPromise, BadRule, NoRule
@@ -137,6 +138,21 @@ class Places(unittest.TestCase):
                 self.assertIs(caught.exception.words, thing)
 
 
+def may_stand(rules):
+    """Whether no way by these rules comes back to a place or says a sort twice: each way is walked."""
+
+    def walk(place, been, heard):
+        for rule in rules:
+            if rule.start == place:
+                if rule.end in been or set(rule.says) & heard:
+                    return False
+                if not walk(rule.end, been | {rule.end}, heard | set(rule.says)):
+                    return False
+        return True
+
+    return all(walk(place, {place}, set()) for place in SEVEN)
+
+
 class RulesThatMayStand(unittest.TestCase):
     def refused(self, rules, index, places=SEVEN, **more):
         for given in (rules, tuple(rules)):
@@ -209,6 +225,23 @@ class RulesThatMayStand(unittest.TestCase):
         self.refused(rules, 8)
         self.refused([*rules[:8], None], 8)
         self.refused([*rules[:5], None, *rules[5:]], 5)
+
+    def test_made_up(self):
+        source = random.Random(10)
+        refused = 0
+        for _ in range(1500):
+            rules = []
+            for name in "abcdefgh"[: source.randint(2, 8)]:
+                start, end = source.sample("abcde", 2)
+                start, end = (start, end) if source.random() < 0.2 else sorted((start, end))
+                rules.append(Rule(name, start, end, (), source.sample("pqrs", source.choice([0, 0, 1, 1, 2]))))
+            index = next((index for index in range(len(rules)) if not may_stand(rules[: index + 1])), None)
+            if index is None:
+                self.assertEqual(Scheme(SEVEN, ["a"], rules).rules(), rules)
+            else:
+                refused += 1
+                self.refused(rules, index)
+        self.assertTrue(400 < refused < 1200)
 
     def test_ways_of_many_rules(self):
         rules = row("a", "b", "c", "d", "e", "f", "g")
